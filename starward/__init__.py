@@ -1,0 +1,1 @@
+"""Starward: where a camera looks, told by the stars that it sees."""

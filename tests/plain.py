@@ -1,0 +1,105 @@
+"""What the tests share: plain searches that follow the words of the document, and ways to look at calls."""
+
+from copy import deepcopy
+from itertools import product
+from random import Random
+
+from starward.errors import SkyError
+from starward.sky import Sky
+
+
+def raised(call, *given):
+    """Return the error of the program that a call raises, or None if it returns."""
+    try:
+        call(*given)
+    except SkyError as error:
+        return error
+    return None
+
+
+def what_is_raised(call, *given):
+    """Return the class of the error that a call raises and a dict of its attributes, or None if it returns."""
+    error = raised(call, *given)
+    if error is None:
+        return None
+    return (type(error), dict(vars(error)))
+
+
+def told_of_sky(sky):
+    """Return all that a sky tells of itself."""
+    return (sky.side, sky.stars, sky.camera, sky.reach, sky.blur, sky.glare, sky.limit)
+
+
+def changed_by(call, sky, *given):
+    """Return True if a call changes its sky or something else that it is given, also if it raises."""
+    was = (told_of_sky(sky), deepcopy(given))
+    raised(call, sky, *given)
+    return (told_of_sky(sky), given) != was
+
+
+def all_cameras(side):
+    """Return all cameras that a sky with this side can have."""
+    return [(reach, blur, glare, limit)
+            for reach, blur, glare, limit in product(range(5), range(3), range(3), range(1, 10))
+            if blur <= reach and 2 * (reach + blur) + 1 <= side]
+
+
+def some_sky(seed, side, camera, many):
+    """Return a sky with so many stars, the same one each time for the same arguments."""
+    chance = Random(seed)
+    stars = [(x, y, brightness) for x in range(side) for y in range(side) for brightness in range(1, 10)]
+    return Sky(side, chance.sample(stars, many), camera)
+
+
+def turned_once(pair):
+    """Return the pair turned by one quarter turn."""
+    return (-pair[1], pair[0])
+
+
+def turned_often(times, pair):
+    """Return the pair turned by so many quarter turns, not less than none."""
+    for _ in range(times):
+        pair = turned_once(pair)
+    return pair
+
+
+def plain_offset(sky, attitude, star):
+    """Return the only offset within the bounds that leads from the attitude to the star, or None."""
+    bound = sky.reach + sky.blur
+    found = []
+    for aside in product(range(-bound, bound + 1), repeat=2):
+        x, y = turned_often(attitude[2], aside)
+        if ((attitude[0] + x - star[0]) % sky.side, (attitude[1] + y - star[1]) % sky.side) == (0, 0):
+            found.append(aside)
+    assert len(found) < 2
+    return found[0] if found else None
+
+
+def plain_seen(sky, attitude):
+    """Return the numbers of the stars that can be seen."""
+    return [number for number, star in enumerate(sky.stars)
+            if plain_offset(sky, attitude, star) is not None and star[2] >= sky.limit - sky.glare]
+
+
+def plain_sure(sky, attitude):
+    """Return the numbers of the sure stars."""
+    bound = sky.reach - sky.blur
+    sure = []
+    for number in plain_seen(sky, attitude):
+        dx, dy = plain_offset(sky, attitude, sky.stars[number])
+        if max(abs(dx), abs(dy)) <= bound and sky.stars[number][2] >= sky.limit + sky.glare:
+            sure.append(number)
+    return sure
+
+
+def plain_fits(sky, attitude, star, spot):
+    """Return True if the spot fits the star."""
+    aside = plain_offset(sky, attitude, star)
+    return (aside is not None and abs(aside[0] - spot[0]) <= sky.blur and abs(aside[1] - spot[1]) <= sky.blur
+            and abs(star[2] - spot[2]) <= sky.glare)
+
+
+def plain_spots(sky):
+    """Return the ascending list of all spots of the sky's camera."""
+    parts = range(-sky.reach, sky.reach + 1)
+    return list(product(parts, parts, range(sky.limit, 9 + sky.glare + 1)))

@@ -1,0 +1,75 @@
+"""Tests that the names and arguments of the interface exist, each defined in its file."""
+
+import importlib
+import inspect
+import unittest
+
+FUNCTIONS = {
+    "sky": {
+        "is_spot": "sky spot", "check_sighting": "sky sighting",
+    },
+    "attitudes": {
+        "attitudes": "sky", "motions": "sky", "check_attitude": "sky attitude", "check_command": "sky command",
+        "check_motion": "sky motion", "turned": "quarters pair", "offset": "sky attitude number",
+        "seen_stars": "sky attitude", "sure_stars": "sky attitude", "fits": "sky attitude number spot",
+        "commanded": "sky attitude command", "taken_back": "sky command", "moved": "sky attitude motion",
+        "motion_between": "sky one other", "joined": "sky first second", "reversed_motion": "sky motion",
+        "apart": "sky one other", "are_far": "sky one other slack",
+    },
+    "notation": {
+        "format_sky": "sky", "format_sighting": "sighting", "format_attitude": "attitude", "parse_sky": "text",
+        "read_sighting": "sky text", "read_number": "text",
+    },
+}
+METHODS = {
+    ("sky", "Sky"): {
+        "__init__": "self side stars camera", "star_at": "self number", "number_of": "self star",
+        "with_star": "self star", "without_star": "self number", "only": "self numbers",
+        "with_camera": "self camera", "moved": "self motion", "same_as": "self other",
+    },
+}
+PROPERTIES = {("sky", "Sky"): "side stars camera reach blur glare limit"}
+
+
+def module_of(name):
+    """Return the file of the package with this name."""
+    return importlib.import_module("starward." + name)
+
+
+class InterfaceTest(unittest.TestCase):
+
+    def check(self, thing, names):
+        self.assertTrue(inspect.isfunction(thing))
+        self.assertEqual(list(inspect.signature(thing).parameters), names.split())
+
+    def test_functions_are_defined_in_their_files(self):
+        for file, functions in FUNCTIONS.items():
+            for name, names in functions.items():
+                with self.subTest(file=file, name=name):
+                    function = getattr(module_of(file), name)
+                    self.check(function, names)
+                    self.assertEqual(function.__module__, "starward." + file)
+
+    def test_methods_are_defined_in_their_classes(self):
+        for (file, name), methods in METHODS.items():
+            owner = getattr(module_of(file), name)
+            self.assertEqual(owner.__module__, "starward." + file)
+            for method, names in methods.items():
+                with self.subTest(owner=name, method=method):
+                    self.check(vars(owner)[method], names)
+
+    def test_properties_are_defined_in_their_classes(self):
+        for (file, name), properties in PROPERTIES.items():
+            for told in properties.split():
+                self.assertIsInstance(vars(getattr(module_of(file), name))[told], property, told)
+
+    def test_errors_are_defined_in_their_file(self):
+        names = ("SkyError InvalidSky InvalidSighting InvalidPaper InvalidShowing NotPossible NotWhole TooLarge "
+                 "NothingToUndo NothingToRedo NoBlock InvalidAttitude InvalidCommand InvalidMotion UnknownStar "
+                 "StarTaken InvalidNotation")
+        for name in names.split():
+            self.assertEqual(getattr(module_of("errors"), name).__module__, "starward.errors")
+
+
+if __name__ == "__main__":
+    unittest.main()
