@@ -1,7 +1,7 @@
 """What the tests share: plain searches that follow the words of the document, and ways to look at calls."""
 
 from copy import deepcopy
-from itertools import product
+from itertools import combinations, product
 from random import Random
 
 from starward.errors import SkyError
@@ -103,3 +103,40 @@ def plain_spots(sky):
     """Return the ascending list of all spots of the sky's camera."""
     parts = range(-sky.reach, sky.reach + 1)
     return list(product(parts, parts, range(sky.limit, 9 + sky.glare + 1)))
+
+
+def all_matchings(table):
+    """Return all matchings of the table, each an ascending list."""
+    found = [[]]
+    for row, columns in enumerate(table):
+        for told in list(found):
+            taken = [column for _, column in told]
+            found.extend([[*told, (row, column)] for column in columns if column not in taken])
+    return found
+
+
+def all_parts(lot):
+    """Return all parts of an ascending lot, each one ascending."""
+    return [list(part) for many in range(len(lot) + 1) for part in combinations(lot, many)]
+
+
+def plain_lack(table, lot):
+    """Return how many rows the lot has above all their partners."""
+    return len(lot) - len({column for row in lot for column in table[row]})
+
+
+def plain_table(sky, attitude, sighting):
+    """Return the table of the attitude for the sighting."""
+    return [[place for place, spot in enumerate(sighting) if plain_fits(sky, attitude, star, spot)]
+            for star in sky.stars]
+
+
+def left_out(told, sure, many):
+    """Return how many of the sure stars and how many of so many spots a matching leaves out."""
+    stars = [star for star, _ in told]
+    return (len([star for star in sure if star not in stars]), many - len(told))
+
+
+def some_sighting(seed, sky, many):
+    """Return a sighting of so many spots, the same one each time; some of them may be equal."""
+    return tuple(sorted(Random(seed).choices(plain_spots(sky), k=many)))

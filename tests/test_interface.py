@@ -20,6 +20,25 @@ FUNCTIONS = {
         "format_sky": "sky", "format_sighting": "sighting", "format_attitude": "attitude", "parse_sky": "text",
         "read_sighting": "sky text", "read_number": "text",
     },
+    "matching": {
+        "most": "table rows", "matching": "table rows columns", "is_matching": "table told", "partners": "table rows",
+        "lack": "table rows", "least_lot": "table rows", "turned_table": "table many",
+    },
+    "sightings": {
+        "table_of": "sky attitude sighting", "need": "sky attitude sighting", "explanation": "sky attitude sighting",
+        "can_be": "sky attitude sighting missing false", "evidence": "sky attitude sighting missing false",
+        "is_evidence": "sky attitude sighting missing false told", "possible": "sky sighting missing false",
+        "needs": "sky sighting", "steps": "sky sighting",
+    },
+    "report": {
+        "sky_map": "sky", "view": "sky attitude", "need_table": "sky sighting missing false",
+    },
+    "confuse": {
+        "linked": "sky one other", "lack": "sky one other", "unlikeness": "sky one other",
+        "lacking_lot": "sky one other", "couples": "sky one other", "are_confusable": "sky one other missing false",
+        "confusing_sighting": "sky one other missing false", "parting_paper": "sky one other missing false",
+        "check_parting": "sky one other missing false paper", "confusable_with": "sky one missing false",
+    },
 }
 METHODS = {
     ("sky", "Sky"): {
