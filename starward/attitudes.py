@@ -41,6 +41,18 @@ def check_two(sky, one, other):
     check_attitude(sky, other)
 
 
+def check_attitudes(sky, told):
+    """Raise InvalidAttitude for the first tuple of the list that is no attitude."""
+    for attitude in told:
+        check_attitude(sky, attitude)
+
+
+def check_commands(sky, told):
+    """Raise InvalidCommand for the first tuple of the list that is no command."""
+    for command in told:
+        check_command(sky, command)
+
+
 def _is_command(side, command):
     """Return True if the tuple is a command for a sky of this side."""
     if len(command) != 3:

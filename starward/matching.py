@@ -14,6 +14,13 @@ def matching(table, rows, columns):
     return sorted([(row, column) for column, row in owners.items()])
 
 
+def with_most(table, told):
+    """Return a matching that has as many rows as any has, and all rows and columns of the matching that is given."""
+    rows = list(range(len(table)))
+    mates = _with_more({row: table[row] for row in rows}, rows, {row: column for row, column in told})
+    return sorted([(row, column) for row, column in mates.items()])
+
+
 def _mates_of(table, rows):
     """Return a dict from as many of the rows as one matching can have to their columns, and from no others."""
     return _with_more({row: table[row] for row in rows}, rows, {})

@@ -33,6 +33,12 @@ def composed(side, first, second):
     return ((x + second[0]) % side, (y + second[1]) % side, (first[2] + second[2]) % 4)
 
 
+def moved_star(side, star, motion):
+    """Return the star, a tuple (x, y, brightness), to which the motion takes the star."""
+    x, y, _ = composed(side, (star[0], star[1], 0), motion)
+    return (x, y, star[2])
+
+
 def inverse(side, motion):
     """Return the motion that takes all back."""
     # Half a turn more gives both parts the opposite sign.

@@ -5,56 +5,79 @@ from starward.matching import is_matching, lacks_more, least_lot, matching, most
 from starward.sky import check_sighting
 
 
-def table_of(sky, attitude, sighting):
-    """Return the table of the attitude. Raise InvalidAttitude, then InvalidSighting."""
-    _check(sky, attitude, sighting)
-    return _table(sky, appearances(sky, attitude), sighting)
+class Frame:
+    """A sighting of a sky, and what attitudes need for it, each thing found once. Nothing is checked."""
+
+    def __init__(self, sky, sighting):
+        self._sky = sky
+        self._sighting = sighting
+        self._fitting = {}
+        self._needs = {}
+
+    def spots(self):
+        """Return the ascending list of the numbers of the spots."""
+        return list(range(len(self._sighting)))
+
+    def table_and_sure(self, attitude):
+        """Return the tuple of the table of the attitude and its sure stars."""
+        shown = appearances(self._sky, attitude)
+        table = [[] for _ in self._sky.stars]
+        for number, look in shown.items():
+            table[number] = list(self._spots_near(look))
+        return (table, sure_among(self._sky, shown))
+
+    def _spots_near(self, look):
+        """Return the ascending list of the numbers of the spots that fit a star with this offset and brightness."""
+        if look not in self._fitting:
+            blur, glare = self._sky.blur, self._sky.glare
+            self._fitting[look] = [number for number, spot in enumerate(self._sighting)
+                                   if are_near(look, spot, blur, glare)]
+        return self._fitting[look]
+
+    def need(self, attitude):
+        """Return what the attitude needs, a tuple."""
+        if attitude not in self._needs:
+            table, sure = self.table_and_sure(attitude)
+            # The most spots that one matching has are as many as the most stars of any kind that one has.
+            self._needs[attitude] = (len(sure) - most(table, sure),
+                                     len(self._sighting) - most(table, list(range(len(table)))))
+        return self._needs[attitude]
 
 
-def _check(sky, attitude, sighting):
-    """Raise InvalidAttitude, then InvalidSighting."""
+def frames_of(sky, sightings):
+    """Return a list with the frame of each sighting; equal sightings have the same one. Nothing is checked."""
+    kept = {}
+    frames = []
+    for sighting in sightings:
+        if sighting not in kept:
+            kept[sighting] = Frame(sky, sighting)
+        frames.append(kept[sighting])
+    return frames
+
+
+def _checked_frame(sky, attitude, sighting):
+    """Return the frame of the sighting. Raise InvalidAttitude, then InvalidSighting."""
     check_attitude(sky, attitude)
     check_sighting(sky, sighting)
+    return Frame(sky, sighting)
 
 
-def _table(sky, shown, sighting):
-    """Return the table of an attitude at which this is shown."""
-    table = [[] for _ in sky.stars]
-    for number, look in shown.items():
-        table[number] = [place for place, spot in enumerate(sighting) if are_near(look, spot, sky.blur, sky.glare)]
+def table_of(sky, attitude, sighting):
+    """Return the table of the attitude. Raise InvalidAttitude, then InvalidSighting."""
+    table, _ = _checked_frame(sky, attitude, sighting).table_and_sure(attitude)
     return table
-
-
-def _table_and_sure(sky, attitude, sighting):
-    """Return the table of the attitude and its sure stars. Nothing is checked."""
-    shown = appearances(sky, attitude)
-    return (_table(sky, shown, sighting), sure_among(sky, shown))
 
 
 def need(sky, attitude, sighting):
     """Return what the attitude needs, a tuple. Raise InvalidAttitude, then InvalidSighting."""
-    _check(sky, attitude, sighting)
-    return _need_at(sky, attitude, sighting)
-
-
-def _need_at(sky, attitude, sighting):
-    """Return what the attitude needs. Nothing is checked."""
-    table, sure = _table_and_sure(sky, attitude, sighting)
-    return _need_in(table, sure, len(sighting))
-
-
-def _need_in(table, sure, many):
-    """Return what an attitude with this table and these sure stars needs for so many spots."""
-    # The most spots that one matching has are as many as the most stars of any kind that one has.
-    stars = list(range(len(table)))
-    return (len(sure) - most(table, sure), many - most(table, stars))
+    return _checked_frame(sky, attitude, sighting).need(attitude)
 
 
 def explanation(sky, attitude, sighting):
     """Return an explanation at what the attitude needs. Raise InvalidAttitude, then InvalidSighting."""
-    _check(sky, attitude, sighting)
-    table, sure = _table_and_sure(sky, attitude, sighting)
-    return matching(table, sure, list(range(len(sighting))))
+    frame = _checked_frame(sky, attitude, sighting)
+    table, sure = frame.table_and_sure(attitude)
+    return matching(table, sure, frame.spots())
 
 
 def can_be(sky, attitude, sighting, missing, false):
@@ -69,10 +92,14 @@ def is_within(needed, missing, false):
 
 def evidence(sky, attitude, sighting, missing, false):
     """Return evidence that the attitude can be, or cannot. Raise InvalidAttitude, then InvalidSighting."""
-    _check(sky, attitude, sighting)
-    table, sure = _table_and_sure(sky, attitude, sighting)
-    spots = list(range(len(sighting)))
-    needed = _need_in(table, sure, len(spots))
+    return evidence_in(_checked_frame(sky, attitude, sighting), attitude, missing, false)
+
+
+def evidence_in(frame, attitude, missing, false):
+    """Return evidence that the attitude can be for the sighting of the frame, or cannot."""
+    table, sure = frame.table_and_sure(attitude)
+    spots = frame.spots()
+    needed = frame.need(attitude)
     if needed[0] > missing:
         return ("stars", least_lot(table, sure))
     if needed[1] > false:
@@ -82,9 +109,9 @@ def evidence(sky, attitude, sighting, missing, false):
 
 def is_evidence(sky, attitude, sighting, missing, false, told):
     """Return True if the tuple is evidence. Raise InvalidAttitude, then InvalidSighting."""
-    _check(sky, attitude, sighting)
-    table, sure = _table_and_sure(sky, attitude, sighting)
-    spots = list(range(len(sighting)))
+    frame = _checked_frame(sky, attitude, sighting)
+    table, sure = frame.table_and_sure(attitude)
+    spots = frame.spots()
     word, shown = told
     if word == "matching":
         return is_matching(table, shown) and is_within(_left_out(sure, spots, shown), missing, false)
@@ -107,14 +134,20 @@ def possible(sky, sighting, missing, false):
 def needs(sky, sighting):
     """Return a dict from all attitudes, ascending, to what they need. Raise InvalidSighting."""
     check_sighting(sky, sighting)
-    return {attitude: _need_at(sky, attitude, sighting) for attitude in attitudes(sky)}
+    frame = Frame(sky, sighting)
+    return {attitude: frame.need(attitude) for attitude in attitudes(sky)}
 
 
 def steps(sky, sighting):
     """Return the ascending list of the steps. Raise InvalidSighting."""
-    told = []
-    for missing, false in sorted(list(needs(sky, sighting).values())):
-        # With ascending first numbers, only a second number below all ones so far gives a new step.
-        if not told or false < told[-1][1]:
-            told.append((missing, false))
-    return told
+    return least_of(list(needs(sky, sighting).values()))
+
+
+def least_of(told):
+    """Return the ascending list of those tuples of two numbers that have no other at most as great in both."""
+    least = []
+    for first, second in sorted(set(told)):
+        # With ascending first numbers, only a second number below all ones so far is one of them.
+        if not least or second < least[-1][1]:
+            least.append((first, second))
+    return least

@@ -1,7 +1,7 @@
 """Skies, and what spots and sightings their cameras tell."""
 
 from starward.errors import InvalidMotion, InvalidSighting, InvalidSky, StarTaken, UnknownStar
-from starward.places import composed, is_pose
+from starward.places import is_pose, moved_star
 
 MOST_STARS = 20
 MOST_SPOTS = 60
@@ -126,11 +126,7 @@ class Sky:
         """Return the sky with all stars moved. Raise InvalidMotion."""
         if not is_pose(self._side, motion):
             raise InvalidMotion(motion)
-        stars = []
-        for x, y, brightness in self._stars:
-            to_x, to_y, _ = composed(self._side, (x, y, 0), motion)
-            stars.append((to_x, to_y, brightness))
-        return Sky(self._side, stars, self._camera)
+        return Sky(self._side, [moved_star(self._side, star, motion) for star in self._stars], self._camera)
 
     def same_as(self, other):
         """Return True if the other sky has the same side, stars and camera."""
@@ -154,3 +150,9 @@ def check_sighting(sky, sighting):
         raise InvalidSighting("the spots are not ascending")
     if len(sighting) > MOST_SPOTS:
         raise InvalidSighting("too many spots")
+
+
+def check_sightings(sky, sightings):
+    """Raise InvalidSighting for the first tuple of the list that is no sighting."""
+    for sighting in sightings:
+        check_sighting(sky, sighting)

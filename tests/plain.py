@@ -1,6 +1,7 @@
 """What the tests share: plain searches that follow the words of the document, and ways to look at calls."""
 
 from copy import deepcopy
+from functools import cache
 from itertools import combinations, product
 from random import Random
 
@@ -105,6 +106,18 @@ def plain_spots(sky):
     return list(product(parts, parts, range(sky.limit, 9 + sky.glare + 1)))
 
 
+@cache
+def plain_links(sky, one, other):
+    """Return a table with the stars that some spot fits at the other attitude while it fits the star at the first."""
+    spots = plain_spots(sky)
+    table = []
+    for star in sky.stars:
+        fitting = [spot for spot in spots if plain_fits(sky, one, star, spot)]
+        table.append([number for number, second in enumerate(sky.stars)
+                      if any(plain_fits(sky, other, second, spot) for spot in fitting)])
+    return table
+
+
 def all_matchings(table):
     """Return all matchings of the table, each an ascending list."""
     found = [[]]
@@ -140,3 +153,68 @@ def left_out(told, sure, many):
 def some_sighting(seed, sky, many):
     """Return a sighting of so many spots, the same one each time; some of them may be equal."""
     return tuple(sorted(Random(seed).choices(plain_spots(sky), k=many)))
+
+
+def no_attitudes(side):
+    """Return tuples of integers that are no attitudes of a sky with this side."""
+    return [(side, 0, 0), (0, side, 0), (0, 0, 4), (-1, 0, 0), (0, -1, 0), (0, 0, -1), (), (0, 0), (0, 0, 0, 0)]
+
+
+def no_commands(side):
+    """Return tuples of integers that are no commands for a sky with this side."""
+    return [(side, 0, 0), (-side, 0, 0), (0, side, 0), (0, -side, 0), (0, 0, 4), (0, 0, -1), (), (0, 0), (0, 0, 0, 0)]
+
+
+def no_sightings(sky):
+    """Return tuples of tuples of integers that are no sightings of a sky with a reach of at least 1."""
+    beyond, dark = sky.reach + 1, sky.limit - 1
+    return [((beyond, 0, 9),), ((-beyond, 0, 9),), ((0, beyond, 9),), ((0, -beyond, 9),), ((0, 0, dark),),
+            ((0, 0, 10 + sky.glare),), ((0, 0),), ((0, 0, 9, 9),), ((),), ((1, 0, 9), (0, 0, 9)), ((0, 0, 9),) * 61]
+
+
+def wrong_calls(given, wrongs):
+    """Yield tuples of arguments and what they raise, a class and the attributes of the error.
+
+    `given` are right arguments. `wrongs` are, in the order in which they are looked at, tuples of the place of an
+    argument and a list of tuples of a wrong one and what it raises. Each wrong one comes alone and with wrong ones
+    behind it.
+    """
+    for turn, (place, bads) in enumerate(wrongs):
+        for bad, expected in bads:
+            told = list(given)
+            told[place] = bad
+            yield (told, expected)
+            for later, worse in wrongs[turn + 1:]:
+                told = list(told)
+                told[later] = worse[0][0]
+                yield (told, expected)
+
+
+def plain_led(sky, attitude, command, slip=0):
+    """Return the ascending list of the attitudes to which a command with slips leads."""
+    led = set()
+    for more in product(range(-slip, slip + 1), repeat=2):
+        x, y = turned_often(attitude[2], (command[0] + more[0], command[1] + more[1]))
+        led.add(((attitude[0] + x) % sky.side, (attitude[1] + y) % sky.side, (attitude[2] + command[2]) % 4))
+    return sorted(led)
+
+
+def plain_course(sky, beginning, row):
+    """Return the course of the row."""
+    course = [beginning]
+    for command in row:
+        course.extend(plain_led(sky, course[-1], command))
+    return course
+
+
+def plain_far(sky, one, other, slack):
+    """Return True if two attitudes are far at the slack."""
+    steps = [min((a - b) % sky.side, (b - a) % sky.side) for a, b in zip(one[:2], other[:2])]
+    return one[2] != other[2] or max(steps) > slack
+
+
+def some_row(seed, side, many):
+    """Return a row of so many commands, the same one each time for the same arguments."""
+    chance = Random(seed)
+    return [(chance.randrange(1 - side, side), chance.randrange(1 - side, side), chance.randrange(4))
+            for _ in range(many)]

@@ -10,10 +10,9 @@ from starward.attitudes import attitudes
 from starward.errors import InvalidAttitude
 from starward.sightings import can_be, need
 from starward.sky import Sky, check_sighting
-from tests.plain import (all_matchings, all_parts, changed_by, plain_fits, plain_lack, plain_seen, plain_spots,
-                         plain_sure, some_sky, what_is_raised)
+from tests.plain import (all_matchings, all_parts, changed_by, no_attitudes, plain_lack, plain_links, plain_seen,
+                         plain_spots, plain_sure, some_sky, what_is_raised)
 
-NO_ATTITUDES = [(5, 0, 0), (0, 5, 0), (0, 0, 4), (-1, 0, 0), (0, -1, 0), (0, 0, -1), (), (0, 0), (0, 0, 0, 0)]
 EXAMPLE = Sky(5, [(0, 0, 5), (2, 0, 5)], (1, 0, 0, 1))
 
 
@@ -30,18 +29,6 @@ def some_cases():
         one = (chance.randrange(3), chance.randrange(3), seed % 4)
         cases.append((sky, one, (chance.randrange(3), chance.randrange(3), chance.randrange(4))))
     return cases
-
-
-@cache
-def plain_links(sky, one, other):
-    """Return a table with the stars that some spot fits at the other attitude while it fits the star at the first."""
-    spots = plain_spots(sky)
-    table = []
-    for star in sky.stars:
-        fitting = [spot for spot in spots if plain_fits(sky, one, star, spot)]
-        table.append([number for number, second in enumerate(sky.stars)
-                      if any(plain_fits(sky, other, second, spot) for spot in fitting)])
-    return table
 
 
 def least_left_out(table, sure):
@@ -228,7 +215,7 @@ class WholeFileTest(unittest.TestCase):
 
     def test_errors_in_order(self):
         for call, more in self.TWO:
-            for told in NO_ATTITUDES:
+            for told in no_attitudes(5):
                 expected = (InvalidAttitude, {"attitude": told})
                 self.assertEqual(what_is_raised(call, EXAMPLE, told, (4, 4, 3), *more), expected)
                 self.assertEqual(what_is_raised(call, EXAMPLE, told, (9, 9, 9), *more), expected)
@@ -236,7 +223,7 @@ class WholeFileTest(unittest.TestCase):
             self.assertIsNone(what_is_raised(call, EXAMPLE, (4, 4, 3), (0, 0, 0), *more))
 
     def test_errors_of_confusable_with(self):
-        for told in NO_ATTITUDES:
+        for told in no_attitudes(5):
             self.assertEqual(what_is_raised(co.confusable_with, EXAMPLE, told, 0, 0),
                              (InvalidAttitude, {"attitude": told}))
 

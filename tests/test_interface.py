@@ -39,6 +39,30 @@ FUNCTIONS = {
         "confusing_sighting": "sky one other missing false", "parting_paper": "sky one other missing false",
         "check_parting": "sky one other missing false paper", "confusable_with": "sky one missing false",
     },
+    "enough": {
+        "most_links": "sky one other", "least_cover": "sky one other", "check_cover": "sky one other cover",
+        "most_shared": "sky one other missing false", "shared_sighting": "sky one other missing false",
+        "enough_spots": "sky missing false slack", "hardest_pair": "sky missing false slack",
+        "enough_paper": "sky missing false slack", "shows_enough": "sky missing false slack number paper",
+    },
+    "rows": {
+        "course": "sky beginning row", "row_need": "sky beginning row sightings",
+        "beginnings": "sky row sightings missing false each", "row_lacks": "sky one other row",
+        "are_confusable_over": "sky one other row missing false each",
+        "confusing_sightings": "sky one other row missing false each",
+        "quickest_row": "sky one other allowed missing false", "standstill": "sky one other allowed",
+        "check_standstill": "sky one other allowed pairs", "frames_enough": "sky command missing false slack",
+        "slowest_pair": "sky command missing false slack",
+    },
+    "turns": {
+        "as_one": "sky row", "reached": "sky attitude commands", "row_to": "sky attitude goal commands",
+        "behind": "sky lot command slip", "is_course": "sky attitudes row slip",
+    },
+    "filters": {
+        "known": "sky log slip missing false", "frontiers": "sky log slip",
+        "known_in_all": "sky log slip missing false", "needs_of": "sky log course",
+        "course_behind": "sky log slip missing false attitude", "course_in_all": "sky log slip missing false attitude",
+    },
 }
 METHODS = {
     ("sky", "Sky"): {
@@ -68,6 +92,11 @@ class InterfaceTest(unittest.TestCase):
                     function = getattr(module_of(file), name)
                     self.check(function, names)
                     self.assertEqual(function.__module__, "starward." + file)
+
+    def test_bounds_of_each_frame_may_be_left_out(self):
+        for name in ("beginnings", "are_confusable_over", "confusing_sightings"):
+            told = inspect.signature(getattr(module_of("rows"), name)).parameters["each"]
+            self.assertIsNone(told.default)
 
     def test_methods_are_defined_in_their_classes(self):
         for (file, name), methods in METHODS.items():

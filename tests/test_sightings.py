@@ -8,14 +8,12 @@ from starward import sightings as si
 from starward.attitudes import attitudes
 from starward.errors import InvalidAttitude, InvalidSighting
 from starward.sky import Sky
-from tests.plain import (all_matchings, all_parts, changed_by, left_out, plain_lack, plain_spots, plain_sure,
-                         plain_table, raised, some_sighting, some_sky, what_is_raised)
+from tests.plain import (all_matchings, all_parts, changed_by, left_out, no_attitudes, no_sightings, plain_lack,
+                         plain_spots, plain_sure, plain_table, raised, some_sighting, some_sky, what_is_raised)
 
-NO_ATTITUDES = [(7, 0, 0), (0, 7, 0), (0, 0, 4), (-1, 0, 0), (0, -1, 0), (0, 0, -1), (), (0, 0), (0, 0, 0, 0)]
-NO_SIGHTINGS = [((3, 0, 5),), ((0, -3, 5),), ((0, 0, 0),), ((0, 0, 10),), ((0, 0),), ((0, 0, 5, 5),), ((),),
-                ((0, 0, 5), (0, 0, 4)), ((0, 0, 5),) * 61]
 SKY = Sky(7, [(0, 0, 5), (1, 0, 5), (3, 0, 5)], (2, 1, 0, 1))
 EQUAL = ((2, 0, 5), (2, 1, 5), (2, 1, 5))
+NO_SIGHTINGS = no_sightings(SKY)
 
 
 def some_cases():
@@ -221,7 +219,7 @@ class WholeFileTest(unittest.TestCase):
 
     def test_errors_in_order(self):
         for call, more in self.ONE_ATTITUDE:
-            for attitude in NO_ATTITUDES:
+            for attitude in no_attitudes(7):
                 for sighting in [(), *NO_SIGHTINGS]:
                     self.assertEqual(what_is_raised(call, SKY, attitude, sighting, *more),
                                      (InvalidAttitude, {"attitude": attitude}))
