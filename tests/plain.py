@@ -190,6 +190,28 @@ def wrong_calls(given, wrongs):
                 yield (told, expected)
 
 
+class CallsTest:
+    """Tests of calls that a test case lists, for the `SKY` that it names.
+
+    `CALLS` are tuples of a function, right arguments behind the sky, and wrong ones as in `wrong_calls`.
+    """
+
+    CALLS = []
+    SKY = None
+
+    def test_errors_in_order(self):
+        for call, given, wrongs in self.CALLS:
+            for told, expected in wrong_calls(given, wrongs):
+                self.assertEqual(what_is_raised(call, self.SKY, *told), expected, call)
+            self.assertIsNone(what_is_raised(call, self.SKY, *given))
+
+    def test_nothing_is_changed(self):
+        for call, given, wrongs in self.CALLS:
+            self.assertFalse(changed_by(call, self.SKY, *given), call)
+            for told, _ in wrong_calls(given, wrongs[-1:]):
+                self.assertFalse(changed_by(call, self.SKY, *told), call)
+
+
 def plain_led(sky, attitude, command, slip=0):
     """Return the ascending list of the attitudes to which a command with slips leads."""
     led = set()

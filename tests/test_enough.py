@@ -107,7 +107,8 @@ class LinksAndCoversTest(unittest.TestCase):
         self.assertEqual(en.most_links(sky, (0, 0, 0), (0, 0, 2)), [(0, 1), (1, 0)])
 
     def test_full_skies(self):
-        for seed, (side, camera) in enumerate([(5, (2, 0, 2, 1)), (9, (3, 1, 2, 3)), (9, (4, 0, 1, 1)), (7, (2, 1, 0, 2))]):
+        for seed, (side, camera) in enumerate([(5, (2, 0, 2, 1)), (9, (3, 1, 2, 3)), (9, (4, 0, 1, 1)),
+                                               (7, (2, 1, 0, 2))]):
             sky = some_sky(seed, side, camera, 20)
             for one, other in zip(attitudes(sky)[::7], attitudes(sky)[::-11]):
                 links, cover = en.most_links(sky, one, other), en.least_cover(sky, one, other)

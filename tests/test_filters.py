@@ -11,8 +11,8 @@ from starward.errors import InvalidAttitude, InvalidCommand, InvalidSighting
 from starward.sightings import need, possible
 from starward.sky import Sky
 from starward.turns import is_course
-from tests.plain import (changed_by, no_attitudes, no_commands, no_sightings, plain_course, plain_led, some_row,
-                         some_sighting, some_sky, what_is_raised, wrong_calls)
+from tests.plain import (CallsTest, no_attitudes, no_commands, no_sightings, plain_course, plain_led, some_row,
+                         some_sighting, some_sky)
 
 EXAMPLE = Sky(5, [(0, 0, 9), (1, 0, 4)], (1, 0, 0, 1))
 LOG = [("look", ((0, 0, 9), (1, 0, 4))), ("turn", (1, 0, 0)), ("look", ((-1, 0, 9), (0, 0, 4)))]
@@ -243,8 +243,9 @@ class GreatLogTest(unittest.TestCase):
             self.assertEqual(plain_course(sky, call(sky, log, 0, 0, 0, (8, 8, 3))[0], row)[-1], (8, 8, 3))
 
 
-class WholeFileTest(unittest.TestCase):
+class WholeFileTest(CallsTest, unittest.TestCase):
 
+    SKY = EXAMPLE
     ATTITUDES = [(told, (InvalidAttitude, {"attitude": told})) for told in no_attitudes(5)]
     COURSES = [([(4, 4, 3), told], (InvalidAttitude, {"attitude": told})) for told in no_attitudes(5)]
     LOGS = [*[([LOG[0], ("turn", told), ("look", ((9, 9, 9),)), ("turn", (9, 9, 9))],
@@ -258,16 +259,6 @@ class WholeFileTest(unittest.TestCase):
              (fi.course_behind, [LOG, 1, 0, 0, (4, 4, 3)], [(0, LOGS), (4, ATTITUDES)]),
              (fi.course_in_all, [LOG, 1, 2, 2, (1, 0, 0)], [(0, LOGS), (4, ATTITUDES)]),
              (fi.course_in_all, [LOG, 1, 0, 0, (4, 4, 3)], [(0, LOGS), (4, ATTITUDES)])]
-
-    def test_errors_in_order(self):
-        for call, given, wrongs in self.CALLS:
-            for told, expected in wrong_calls(given, wrongs):
-                self.assertEqual(what_is_raised(call, EXAMPLE, *told), expected, call)
-            self.assertIsNone(what_is_raised(call, EXAMPLE, *given))
-
-    def test_nothing_is_changed(self):
-        for call, given, _ in self.CALLS:
-            self.assertFalse(changed_by(call, EXAMPLE, *given), call)
 
     def test_examples(self):
         self.assertEqual((fi.known(EXAMPLE, LOG, 1, 0, 0), fi.needs_of(EXAMPLE, LOG, [(0, 0, 0), (2, 0, 0)]),

@@ -63,12 +63,28 @@ FUNCTIONS = {
         "known_in_all": "sky log slip missing false", "needs_of": "sky log course",
         "course_behind": "sky log slip missing false attitude", "course_in_all": "sky log slip missing false attitude",
     },
+    "blur": {
+        "allowed": "sky", "need_with": "sky attitude sighting blur glare",
+        "error_steps": "sky attitude sighting missing false", "least_blur": "sky sighting missing false glare",
+        "blur_evidence": "sky attitude sighting missing false blur glare",
+    },
+    "seen": {
+        "look": "sky attitude shifts false", "showing_of": "sky attitude sighting told",
+    },
+    "alike": {
+        "sees": "sky attitude", "are_alike": "sky one other", "alike_lots": "sky", "telling_sighting": "sky one other",
+        "check_telling": "sky one other told", "still_motions": "sky", "still_lots": "sky",
+    },
 }
 METHODS = {
     ("sky", "Sky"): {
         "__init__": "self side stars camera", "star_at": "self number", "number_of": "self star",
         "with_star": "self star", "without_star": "self number", "only": "self numbers",
         "with_camera": "self camera", "moved": "self motion", "same_as": "self other",
+    },
+    ("worlds", "World"): {
+        "__init__": "self sky attitude", "sky_now": "self", "attitude_now": "self", "turn": "self command slip",
+        "look": "self shifts false", "log": "self", "course": "self", "greatest_slip": "self", "errors": "self",
     },
 }
 PROPERTIES = {("sky", "Sky"): "side stars camera reach blur glare limit"}

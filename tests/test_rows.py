@@ -11,8 +11,8 @@ from starward.confuse import confusing_sighting, lack
 from starward.errors import InvalidAttitude, InvalidCommand, InvalidSighting
 from starward.sightings import need
 from starward.sky import Sky, check_sighting
-from tests.plain import (changed_by, no_attitudes, no_commands, no_sightings, plain_course, plain_far, plain_led,
-                         plain_spots, some_row, some_sighting, some_sky, what_is_raised, wrong_calls)
+from tests.plain import (CallsTest, no_attitudes, no_commands, no_sightings, plain_course, plain_far, plain_spots,
+                         some_row, some_sighting, some_sky, what_is_raised)
 
 EXAMPLE = Sky(5, [(0, 0, 5), (1, 0, 3)], (1, 0, 0, 1))
 LOOK_AGAIN = (0, 0, 0)
@@ -288,13 +288,18 @@ class QuickestRowTest(unittest.TestCase):
         lot = plain_lot(sky, *two, allowed)
         self.assertEqual(ro.standstill(sky, *two, allowed), lot)
         more = plain_lot(sky, (1, 1, 1), (1, 1, 3), [LOOK_AGAIN])
-        self.assertIs(ro.check_standstill(sky, *two, allowed, lot + plain_lot(sky, (0, 3, 0), (4, 4, 2), allowed)), True)
+        other = plain_lot(sky, (0, 3, 0), (4, 4, 2), allowed)
+        self.assertIs(ro.check_standstill(sky, *two, allowed, lot + other), True)
         self.assertIs(ro.check_standstill(sky, *two, allowed, lot + more), False)
         self.assertIs(ro.check_standstill(sky, *two, [LOOK_AGAIN], [*more, two]), True)
         self.assertIs(ro.check_standstill(sky, *two, [LOOK_AGAIN], [two, ((0, 0, 0), (1, 1, 1))]), False)
         self.assertIs(ro.check_standstill(sky, *two, [LOOK_AGAIN], [two, ((1, 1, 1), (0, 0, 0))]), False)
         self.assertIs(ro.check_standstill(sky, *two, [LOOK_AGAIN], [two[::-1]]), False)
         self.assertIs(ro.check_standstill(sky, *two, [LOOK_AGAIN], more), False)
+        # Around the sky these are the two, but they are no attitudes.
+        for bad in [((6, 1, 0), two[1]), (two[0], (1, -3, 0)), ((1, 1, 4), (1, 2, 4)), (two[0], (1, 2, -4))]:
+            self.assertIs(ro.check_standstill(sky, *two, [LOOK_AGAIN], [two, bad]), False)
+            self.assertIs(ro.check_standstill(sky, *two, allowed, [bad, *lot]), False)
         for bad in [(9, 9, 9), (5, 0, 0), (0, 0, 4), (-1, 0, 0)]:
             for pair in [(bad, two[0]), (two[0], bad), (bad, bad)]:
                 self.assertIs(ro.check_standstill(sky, *two, [LOOK_AGAIN], [two, pair]), False)
@@ -364,8 +369,9 @@ class FramesEnoughTest(unittest.TestCase):
             self.assertEqual(self.plain_frames(sky, pair, command, 40), frames)
 
 
-class WholeFileTest(unittest.TestCase):
+class WholeFileTest(CallsTest, unittest.TestCase):
 
+    SKY = EXAMPLE
     ATTITUDES = [(told, (InvalidAttitude, {"attitude": told})) for told in no_attitudes(5)]
     COMMANDS = [(told, (InvalidCommand, {"command": told})) for told in no_commands(5)]
     ROWS = [([(4, -4, 3), told, (9, 9, 9)], (InvalidCommand, {"command": told})) for told in no_commands(5)]
@@ -385,21 +391,11 @@ class WholeFileTest(unittest.TestCase):
              (ro.frames_enough, [(1, 0, 0), 0, 1, 1], [(0, COMMANDS)]),
              (ro.slowest_pair, [(1, 0, 0), 0, 1, 1], [(0, COMMANDS)])]
 
-    def test_errors_in_order(self):
-        for call, given, wrongs in self.CALLS:
-            for told, expected in wrong_calls(given, wrongs):
-                self.assertEqual(what_is_raised(call, EXAMPLE, *told), expected, call)
-            self.assertIsNone(what_is_raised(call, EXAMPLE, *given))
-
     def test_first_sighting_that_is_wrong(self):
         for told in no_sightings(EXAMPLE):
             for sightings in ([told, ()], [(), told], [told, told]):
                 self.assertEqual(what_is_raised(ro.row_need, EXAMPLE, (0, 0, 0), [(1, 0, 0)], sightings),
                                  (InvalidSighting, {}))
-
-    def test_nothing_is_changed(self):
-        for call, given, _ in self.CALLS:
-            self.assertFalse(changed_by(call, EXAMPLE, *given), call)
 
     def test_answers_are_new(self):
         for call, given, _ in self.CALLS:

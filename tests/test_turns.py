@@ -7,8 +7,7 @@ from starward import turns as tu
 from starward.attitudes import attitudes, commanded, taken_back
 from starward.errors import InvalidAttitude, InvalidCommand
 from starward.sky import Sky
-from tests.plain import (changed_by, no_attitudes, no_commands, plain_course, plain_led, some_row, what_is_raised,
-                         wrong_calls)
+from tests.plain import (CallsTest, changed_by, no_attitudes, no_commands, plain_course, plain_led, some_row)
 
 SKIES = {side: Sky(side, [], (1, 0, 0, 1)) for side in (4, 5, 9)}
 EXAMPLE = Sky(5, [(0, 0, 9), (1, 0, 4)], (1, 0, 0, 1))
@@ -193,8 +192,9 @@ class IsCourseTest(unittest.TestCase):
         self.assertIs(tu.is_course(SKIES[9], [*course[:-1], (*course[-1][:2], (course[-1][2] + 1) % 4)], row, 3), False)
 
 
-class WholeFileTest(unittest.TestCase):
+class WholeFileTest(CallsTest, unittest.TestCase):
 
+    SKY = EXAMPLE
     ATTITUDES = [(told, (InvalidAttitude, {"attitude": told})) for told in no_attitudes(5)]
     LISTS = [([(0, 0, 0), told, (9, 9, 9)], (InvalidAttitude, {"attitude": told})) for told in no_attitudes(5)]
     COMMANDS = [(told, (InvalidCommand, {"command": told})) for told in no_commands(5)]
@@ -208,15 +208,7 @@ class WholeFileTest(unittest.TestCase):
              (tu.is_course, [[(0, 0, 0), (1, 0, 0)], [(1, 0, 0)], 0], [(1, ROWS)]),
              (tu.is_course, [[(9, 9, 9)], [(1, 0, 0)], 0], [(1, ROWS)])]
 
-    def test_errors_in_order(self):
-        for call, given, wrongs in self.CALLS:
-            for told, expected in wrong_calls(given, wrongs):
-                self.assertEqual(what_is_raised(call, EXAMPLE, *told), expected, call)
-            self.assertIsNone(what_is_raised(call, EXAMPLE, *given))
-
-    def test_nothing_is_changed(self):
-        for call, given, _ in self.CALLS:
-            self.assertFalse(changed_by(call, EXAMPLE, *given), call)
+    def test_nothing_more_is_changed(self):
         self.assertFalse(changed_by(tu.behind, EXAMPLE, [(3, 3, 1), (0, 1, 2), (3, 3, 1)], (1, 0, 0), 2))
 
     def test_answers_are_new(self):
