@@ -15,7 +15,6 @@ def sees(sky, attitude):
 
 def are_alike(sky, one, other):
     """Return True if the two attitudes are alike, otherwise False. Raise InvalidAttitude."""
-    check_two(sky, one, other)
     return sees(sky, one) == sees(sky, other)
 
 
@@ -30,7 +29,6 @@ def alike_lots(sky):
 
 def telling_sighting(sky, one, other):
     """Return a telling sighting, a tuple, or None if the attitudes are alike. Raise InvalidAttitude."""
-    check_two(sky, one, other)
     both = [sees(sky, one), sees(sky, other)]
     if both[0] == both[1]:
         return None

@@ -1,7 +1,6 @@
 """What attitudes need if the errors of the camera are others than its own."""
 
 from starward.attitudes import attitudes, check_attitude
-from starward.errors import InvalidSky
 from starward.sightings import Frame, evidence_in, is_within
 from starward.sky import check_sighting, is_camera
 
@@ -14,8 +13,6 @@ def allowed(sky):
 
 def _frame_with(sky, sighting, blur, glare):
     """Return the frame of the sighting with other errors. Raise InvalidSky if they are not allowed."""
-    if (blur, glare) not in allowed(sky):
-        raise InvalidSky("blur and glare are not allowed")
     # The spots stay as they are, so some may be none of the other camera.
     return Frame(sky.with_camera((sky.reach, blur, glare, sky.limit)), sighting)
 
@@ -45,10 +42,7 @@ def least_blur(sky, sighting, missing, false, glare):
     Raise InvalidSighting, then InvalidSky if the glare is not allowed.
     """
     check_sighting(sky, sighting)
-    blurs = [blur for blur, other in allowed(sky) if other == glare]
-    if not blurs:
-        raise InvalidSky("the glare is not allowed")
-    for blur in blurs:
+    for blur in sorted({each for each, _ in allowed(sky)}):
         frame = _frame_with(sky, sighting, blur, glare)
         can = [attitude for attitude in attitudes(sky) if is_within(frame.need(attitude), missing, false)]
         if can:

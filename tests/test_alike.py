@@ -11,8 +11,8 @@ from starward.confuse import are_confusable
 from starward.errors import InvalidAttitude
 from starward.sightings import can_be, need
 from starward.sky import Sky, check_sighting
-from tests.plain import (changed_by, no_attitudes, no_sightings, plain_offset, plain_seen, plain_spots, some_sky,
-                         turned_often, what_is_raised, wrong_calls)
+from tests.plain import (changed_by, no_attitudes, no_sightings, plain_fits, plain_offset, plain_seen, plain_spots,
+                         some_sky, turned_often, what_is_raised, wrong_calls)
 
 EXAMPLE = Sky(5, [(0, 0, 9), (1, 0, 4)], (1, 0, 0, 1))
 
@@ -79,6 +79,24 @@ class AlikeTest(unittest.TestCase):
                         told[attitude].append(need(sky, attitude, sighting))
             for one, other in product(chosen, repeat=2):
                 self.assertIs(al.are_alike(sky, one, other), told[one] == told[other])
+
+
+    def test_sightings_tell_how_many_stars_fit_some_spot_of_a_lot(self):
+        # Point [72]: of spots of a lot, as many as stars that fit one of them, and as many as may be false.
+        chance = Random(6)
+        for sky, attitude in [(Sky(4, [(0, 0, 9), (1, 0, 9), (3, 3, 9)], (1, 0, 0, 9)), (0, 0, 0)),
+                              (Sky(5, [(0, 0, 9), (2, 0, 9)], (1, 1, 0, 9)), (0, 0, 1)),
+                              (Sky(4, [(0, 0, 9), (0, 0, 7), (0, 0, 8)], (0, 0, 1, 8)), (0, 0, 2))]:
+            spots = plain_spots(sky)
+            seen = len(plain_seen(sky, attitude))
+            told = [(sighting, need(sky, attitude, sighting)) for many in range(seen + 2)
+                    for sighting in combinations_with_replacement(spots, many)]
+            for lot in [chance.sample(spots, chance.randrange(1, len(spots))) for _ in range(25)]:
+                fitting = [star for star in sky.stars if any(plain_fits(sky, attitude, star, spot) for spot in lot)]
+                for missing, false in [(0, 0), (0, 1), (1, 0), (1, 1)]:
+                    most = max(len([spot for spot in sighting if spot in lot]) for sighting, needs in told
+                               if needs[0] <= missing and needs[1] <= false)
+                    self.assertEqual(most, len(fitting) + false)
 
 
 class TellingTest(unittest.TestCase):
@@ -184,6 +202,20 @@ class StillTest(unittest.TestCase):
                 self.assertIn(reversed_motion(sky, one), still)
                 self.assertTrue(all(are_confusable(sky, attitude, moved(sky, attitude, one), 0, 0)
                                     for attitude in attitudes(sky)[::31]))
+
+    def hidden(self, sky):
+        """Return the motions by which no attitude and its moved one are told apart at (0, 0)."""
+        return [motion for motion in motions(sky)
+                if all(are_confusable(sky, attitude, moved(sky, attitude, motion), 0, 0)
+                       for attitude in attitudes(sky)[::4])]
+
+    def test_hidden_motions_are_still_without_blur_and_glare(self):
+        for sky in (EXAMPLE, some_skies()[2], Sky(4, [(0, 0, 5), (2, 0, 5), (0, 2, 5), (2, 2, 5)], (1, 0, 0, 4)),
+                    Sky(5, [(1, 0, 7), (0, 1, 7), (4, 0, 7), (0, 4, 7), (2, 3, 3)], (2, 0, 0, 4))):
+            self.assertEqual(self.hidden(sky), al.still_motions(sky))
+        sky = Sky(5, [(0, 0, 5), (0, 1, 6)], (1, 0, 2, 1))
+        self.assertEqual(al.still_motions(sky), [(0, 0, 0)])
+        self.assertTrue({(0, 0, 0), (0, 1, 2)} <= set(self.hidden(sky)))
 
     def test_sky_without_stars(self):
         sky = Sky(4, [], (1, 0, 0, 1))

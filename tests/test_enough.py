@@ -319,6 +319,14 @@ class PaperTest(unittest.TestCase):
                     told = en.shows_enough(sky, missing, false, 0, number, {**paper, pair: ("cover", *cover)})
                     self.assertIs(told, right)
 
+    def test_side_that_is_none(self):
+        sky = Sky(5, [(0, 0, 5), (1, 0, 5)], (1, 0, 0, 1))
+        number, paper = en.enough_spots(sky, 0, 0, 0), en.enough_paper(sky, 0, 0, 0)
+        for pair, lots in [(((0, 0, 0), (3, 3, 0)), [True, False]), (((0, 3, 0), (1, 0, 0)), [False, True])]:
+            told = [en.shows_enough(sky, 0, 0, 0, number, {**paper, pair: ("lot", side, [0, 1])})
+                    for side in (0, 1, -1, 2, 3)]
+            self.assertEqual(told, [*lots, False, False, False])
+
     def test_star_that_is_not_sure_is_in_no_lot(self):
         # At the first attitude the star 1 is seen beside the middle, so it is not sure; the second one sees no star.
         sky = Sky(7, [(0, 0, 5), (1, 0, 5)], (1, 1, 0, 5))

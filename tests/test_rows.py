@@ -6,7 +6,7 @@ from itertools import combinations_with_replacement, product
 from random import Random
 
 from starward import rows as ro
-from starward.attitudes import attitudes, commanded
+from starward.attitudes import attitudes, commanded, motion_between
 from starward.confuse import confusing_sighting, lack
 from starward.errors import InvalidAttitude, InvalidCommand, InvalidSighting
 from starward.sightings import need
@@ -304,6 +304,20 @@ class QuickestRowTest(unittest.TestCase):
             for pair in [(bad, two[0]), (two[0], bad), (bad, bad)]:
                 self.assertIs(ro.check_standstill(sky, *two, [LOOK_AGAIN], [two, pair]), False)
                 self.assertIs(ro.check_standstill(sky, *two, [LOOK_AGAIN], [pair]), False)
+
+
+class PairTest(unittest.TestCase):
+
+    def test_command_leads_pairs_back_and_keeps_the_motion(self):
+        for side in (4, 5, 9):
+            sky = Sky(side, [], (1, 0, 0, 1))
+            for command in some_row(side, side, 12):
+                for one, other in zip(attitudes(sky)[::7], attitudes(sky)[::-5]):
+                    row = [command] * side
+                    first, second = ro.course(sky, one, row), ro.course(sky, other, row)
+                    self.assertIn((one, other), list(zip(first, second))[1:])
+                    self.assertEqual({motion_between(sky, *pair) for pair in zip(first, second)},
+                                     {motion_between(sky, one, other)})
 
 
 class FramesEnoughTest(unittest.TestCase):

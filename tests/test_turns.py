@@ -50,6 +50,15 @@ class AsOneTest(unittest.TestCase):
         self.assertEqual(tu.as_one(SKIES[9], [(8, -8, 0)] * 2000), (2000 * 8 % 9, -2000 * 8 % 9, 0))
 
 
+    def test_command_that_leaves_one_as_it_is_leaves_all(self):
+        sky = SKIES[4]
+        for command in product(range(-3, 4), range(-3, 4), range(4)):
+            stays = [plain_led(sky, attitude, command) == [attitude] for attitude in attitudes(sky)[::5]]
+            self.assertEqual(len(set(stays)), 1)
+            self.assertIs(tu.as_one(sky, [command]) == (0, 0, 0), stays[0])
+            self.assertEqual(tu.reached(sky, (1, 2, 3), [command]) == [(1, 2, 3)], stays[0])
+
+
 class ReachedTest(unittest.TestCase):
 
     def test_against_adding_until_no_more_come_in(self):
