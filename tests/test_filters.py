@@ -94,7 +94,7 @@ class LookByLookTest(unittest.TestCase):
             row = [told for word, told in log if word == "turn"]
             for missing, false in BOUNDS[:5]:
                 can = fi.known(sky, log, slip, missing, false)
-                for end in attitudes(sky)[::3]:
+                for end in attitudes(sky)[::7]:
                     told = fi.course_behind(sky, log, slip, missing, false, end)
                     if end not in can:
                         self.assertIsNone(told)
@@ -150,7 +150,7 @@ class InAllTest(unittest.TestCase):
             row = [told for word, told in log if word == "turn"]
             for missing, false in [*BOUNDS[1:], (4, 2), (1, 7)]:
                 can = fi.known_in_all(sky, log, slip, missing, false)
-                for end in attitudes(sky)[::5]:
+                for end in attitudes(sky)[::9]:
                     told = fi.course_in_all(sky, log, slip, missing, false, end)
                     if end not in can:
                         self.assertIsNone(told)
@@ -161,7 +161,7 @@ class InAllTest(unittest.TestCase):
 
     def test_bounds_just_reached_and_just_missed(self):
         for sky, log, slip in some_cases():
-            for end, frontier in list(fi.frontiers(sky, log, slip).items())[::7]:
+            for end, frontier in list(fi.frontiers(sky, log, slip).items())[::11]:
                 for missing, false in frontier:
                     can = [end in fi.known_in_all(sky, log, slip, *bounds)
                            for bounds in [(missing, false), (missing - 1, false), (missing, false - 1)]

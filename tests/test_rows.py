@@ -90,7 +90,7 @@ class RowNeedTest(unittest.TestCase):
                 there = plain_course(sky, beginning, row)
                 told[beginning] = [need(sky, attitude, sighting) for attitude, sighting in zip(there, sightings)]
                 self.assertEqual(ro.row_need(sky, beginning, row, sightings), tuple(map(sum, zip(*told[beginning]))))
-            for (missing, false), each in product([(0, 0), (1, 0), (0, 2), (2, 2), (20, 20)], EACH):
+            for (missing, false), each in product([(0, 0), (1, 0), (0, 2), (2, 2)], EACH[:5]):
                 can = [beginning for beginning, needs in told.items()
                        if sum(first for first, _ in needs) <= missing and sum(second for _, second in needs) <= false
                        and (each is None or all(first <= each[0] and second <= each[1] for first, second in needs))]
@@ -176,7 +176,7 @@ class ConfusableOverTest(unittest.TestCase):
     def test_confusing_sightings_let_both_be(self):
         for case in self.some(3):
             sky, one, other, row = case
-            for missing, false, each in product((0, 1, 2, 5, 9), (0, 1, 3, 8), EACH):
+            for missing, false, each in product((0, 1, 5), (0, 2, 8), EACH):
                 told = ro.confusing_sightings(*case, missing, false, each)
                 if not ro.are_confusable_over(*case, missing, false, each):
                     self.assertIsNone(told)
@@ -377,10 +377,8 @@ class FramesEnoughTest(unittest.TestCase):
 
     def test_full_sky_of_the_greatest_side(self):
         sky = some_sky(5, 9, (4, 0, 0, 1), 20)
-        for command in [(1, 0, 0), (0, 1, 1)]:
-            frames = ro.frames_enough(sky, command, 20, 20, 0)
-            pair = ro.slowest_pair(sky, command, 20, 20, 0)
-            self.assertEqual(self.plain_frames(sky, pair, command, 40), frames)
+        frames, pair = ro.frames_enough(sky, (0, 1, 1), 20, 20, 0), ro.slowest_pair(sky, (0, 1, 1), 20, 20, 0)
+        self.assertEqual(self.plain_frames(sky, pair, (0, 1, 1), 40), frames)
 
 
 class WholeFileTest(CallsTest, unittest.TestCase):
