@@ -1,9 +1,13 @@
 """How many spots are enough: links at once, covers, and sightings that two attitudes share."""
 
-from starward.attitudes import appearances, sure_among
+from starward.attitudes import attitudes, sure_among
+from starward.bits import bits_of, least_part, most_held, union_of
 from starward.confuse import both_lacks, common_spot, couples, link_table, shown_at
-from starward.matching import is_ascending, lacks_more, least_lot, matching, partners, turned_table, with_most
-from starward.pairs import far_pairs, unturned
+from starward.links import Links
+from starward.matching import is_ascending, least_lot, matching, partners, with_most
+from starward.pairs import both_ways, count_far, far_behind, far_rows, near_places
+
+COVER = "cover"
 
 
 def most_links(sky, one, other):
@@ -41,7 +45,7 @@ def _is_cover(table, seen, seen_other, cover):
 
 def _is_lot(told, numbers):
     """Return True if the list is ascending, each number once, and has none but these, otherwise False."""
-    return is_ascending(told) and all([number in numbers for number in told])
+    return not told or (is_ascending(told) and all([number in numbers for number in told]))
 
 
 def most_shared(sky, one, other, missing, false):
@@ -88,21 +92,23 @@ def _own_spots(sky, shown, reached, most):
 
 def _hardest(sky, missing, false, slack):
     """Return the tuple of the most spots that two far attitudes share and the first pair that does, or (None, None)."""
+    links = Links(sky)
     greatest, hardest = None, None
-    done = {}
-    for one, other in far_pairs(sky, slack):
-        key = unturned(one, other)
-        if key in done:
-            continue
-        done[key] = True
-        shown, shown_other = appearances(sky, key[0]), appearances(sky, key[1])
-        # However many links there are, no more spots are shared than the stars that are seen allow.
-        if greatest is not None and false + min(len(shown), len(shown_other)) <= greatest:
-            continue
-        many = _most_shared(sky, shown, shown_other, missing, false)
-        if many is not None and (greatest is None or many > greatest):
-            greatest, hardest = many, (one, other)
-    return (greatest, hardest)
+    counts = [len(shown) for shown in links.shown]
+    for place, shown in enumerate(links.shown):
+        for other in far_behind(sky.side, place, slack):
+            # However many links there are, no more spots are shared than the stars that are seen allow.
+            if greatest is not None and false + min(counts[place], counts[other // 4]) <= greatest:
+                continue
+            if links.are_alike_enough(place, other, missing + false):
+                many = most_held(links.table(place, other, list(shown)))
+                shared = _shared_spots(many, false, shown, links.shown[other // 4])
+                if greatest is None or shared > greatest:
+                    greatest, hardest = shared, (4 * place, other)
+    if hardest is None:
+        return (None, None)
+    every = attitudes(sky)
+    return (greatest, (every[hardest[0]], every[hardest[1]]))
 
 
 def enough_spots(sky, missing, false, slack):
@@ -119,60 +125,99 @@ def hardest_pair(sky, missing, false, slack):
 
 def enough_paper(sky, missing, false, slack):
     """Return a paper for the enough spots: a dict from all far pairs to lots and covers."""
-    entries = {}
+    entries = _Entries(sky, missing + false)
     paper = {}
-    for one, other in far_pairs(sky, slack):
-        key = unturned(one, other)
-        if key not in entries:
-            entries[key] = _entry(sky, appearances(sky, key[0]), appearances(sky, key[1]), missing + false)
-        word, first, second = entries[key]
-        paper[(one, other)] = (word, list(first) if word == "cover" else first, list(second))
+    for one, others, told in far_rows(sky, slack, entries.of_place):
+        for other, (word, first, second) in zip(others, told):
+            paper[(one, other)] = (word, [*first], [*second]) if word == COVER else (word, first, [*second])
     return paper
 
 
-def _entry(sky, shown, shown_other, bound):
-    """Return what a paper has for two attitudes: a lot that lacks more than the bound, otherwise a least cover."""
-    table = link_table(sky, shown, shown_other)
-    sides = [(table, sure_among(sky, shown)), (turned_table(table, len(sky.stars)), sure_among(sky, shown_other))]
-    for side, (links, sure) in enumerate(sides):
-        lot = least_lot(links, sure)
-        if lacks_more(links, sure, lot, bound):
-            return ("lot", side, lot)
-    first, second = _cover(table, list(shown))
-    return ("cover", first, second)
+class _Entries:
+    """What a paper of enough has for two attitudes: a lot that lacks more than a bound, otherwise a least cover."""
+
+    def __init__(self, sky, bound):
+        self._links = Links(sky)
+        self._bound = bound
+        self._lots = {}
+
+    def of_place(self, place, others):
+        """Return the list of the entries for the attitude at the place with the quarter 0 and each of the others."""
+        seen = list(self._links.shown[place])
+        tables = [self._links.tables(place, quarter, seen) for quarter in range(4)]
+        covers = {}
+        entries = []
+        for other in others:
+            entry = self._lot(place, other)
+            if entry is None:
+                masks = tables[other & 3][other >> 2]
+                if masks not in covers:
+                    covers[masks] = _cover_of(seen, masks)
+                entry = covers[masks]
+            entries.append(entry)
+        return entries
+
+    def _lot(self, place, other):
+        """Return the entry with a lot that lacks more than the bound, or None if there is none."""
+        for side, (here, there) in enumerate(both_ways(place, other)):
+            if len(self._links.sure[here]) > self._bound:
+                lack, lot = self._lots_of(here)[there]
+                if lack > self._bound:
+                    return ("lot", side, lot)
+        return None
+
+    def _lots_of(self, place):
+        """Return tuples of the lack of the attitude at the place and its least lot, for all attitudes."""
+        if place not in self._lots:
+            self._lots[place] = self._links.lot_row(place, self._links.sure[place])
+        return self._lots[place]
+
+
+def _cover_of(seen, masks):
+    """Return an entry of a paper with a least cover of the links of the stars that are seen with these partners."""
+    _, lot = least_part(masks)
+    return (COVER, [star for row, star in enumerate(seen) if row not in lot],
+            bits_of(union_of([masks[row] for row in lot])))
 
 
 def shows_enough(sky, missing, false, slack, number, paper):
     """Return True if the dict is a paper of enough for the number, otherwise False."""
-    pairs = far_pairs(sky, slack)
-    if len(paper) != len(pairs):
+    if len(paper) != count_far(sky.side, slack):
         return False
-    links = {}
-    for pair in pairs:
-        key = unturned(pair[0], pair[1])
-        if key not in links:
-            links[key] = _seen_and_links(sky, key)
-        if pair not in paper or not _is_right(sky, links[key], missing, false, number, paper[pair]):
+    links = Links(sky)
+    numbers = {attitude: at for at, attitude in enumerate(attitudes(sky))}
+    known = [{} for _ in links.shown]
+    for (one, other), entry in paper.items():
+        first, second = numbers.get(one), numbers.get(other)
+        if first is None or second is None or first >= second:
             return False
+        right = known[first // 4]
+        turned = second - second % 4 + (second - first) % 4
+        # An entry that is right for a pair is right where both are turned alike, too.
+        if right.get(turned) != entry:
+            if turned not in right and not turned % 4 and turned // 4 in near_places(sky.side, first // 4, slack):
+                return False
+            if not _is_right(links, both_ways(first // 4, turned), (missing, false), number, entry):
+                return False
+            right[turned] = entry
     return True
 
 
-def _seen_and_links(sky, pair):
-    """Return the tuple of what is shown at each of two attitudes and the table of their links."""
-    shown, shown_other = appearances(sky, pair[0]), appearances(sky, pair[1])
-    return (shown, shown_other, link_table(sky, shown, shown_other))
-
-
-def _is_right(sky, links, missing, false, number, entry):
+def _is_right(links, ways, bounds, number, entry):
     """Return True if the entry of a paper shows that two attitudes share no sighting of so many spots."""
-    shown, shown_other, table = links
     word, first, second = entry
-    if word == "cover":
-        return (_is_cover(table, list(shown), list(shown_other), (first, second))
-                and _shared_spots(len(first) + len(second), false, shown, shown_other) < number)
-    if word == "lot" and first == 0:
-        return lacks_more(table, sure_among(sky, shown), second, missing + false)
-    if word == "lot" and first == 1:
-        back = turned_table(table, len(sky.stars))
-        return lacks_more(back, sure_among(sky, shown_other), second, missing + false)
+    if word == COVER:
+        place, other = ways[0]
+        shown, shown_other = links.shown[place], links.shown[other // 4]
+        return (_shared_spots(len(first) + len(second), bounds[1], shown, shown_other) < number
+                and _is_lot(first, list(shown)) and _is_lot(second, list(shown_other))
+                and not _uncovered(links, place, other, first) & ~sum([1 << star for star in second]))
+    if word == "lot" and first in (0, 1):
+        place, other = ways[first]
+        return links.lacks_more(place, other, second, bounds[0] + bounds[1])
     return False
+
+
+def _uncovered(links, place, other, first):
+    """Return the stars that are linked with those seen from the place that the list does not have, as bits."""
+    return union_of(links.table(place, other, [star for star in links.shown[place] if star not in first]))

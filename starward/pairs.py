@@ -1,7 +1,14 @@
-"""Pairs of attitudes: which ones are far, and what is the same for many of them."""
+"""Pairs of attitudes of a sky: which ones are far, with places and attitudes told by their numbers.
+
+A place has its number among all places, ascending, and an attitude its number among all attitudes: four times that
+of its place, and its quarter. Turning both of two attitudes alike where they stand turns all offsets alike: the same
+stars are seen, sure and linked. So it is enough to look at pairs whose first attitude has the quarter 0.
+"""
 
 from starward.attitudes import appearances, are_far, attitudes
 from starward.confuse import both_lacks
+
+BACK_TURNS = (0, 3, 2, 1)
 
 
 def far_pairs(sky, slack):
@@ -11,11 +18,66 @@ def far_pairs(sky, slack):
             if are_far(sky, one, other, slack)]
 
 
-def unturned(one, other):
-    """Return the two attitudes, both turned alike where they stand, so that the first one has the quarter 0.
+def near_places(side, place, slack):
+    """Return a dict of True from the numbers of the places that are at most the slack apart from a place."""
+    x, y = divmod(place, side)
+    steps = range(-min(slack, side // 2), min(slack, side // 2) + 1)
+    return {(x + right) % side * side + (y + up) % side: True for right in steps for up in steps}
 
-    All offsets are then turned alike: the same stars are seen, sure and linked.
+
+def far_numbers(side, place, slack):
+    """Return the ascending list of the attitudes that are far from that with the quarter 0 at the place."""
+    near = near_places(side, place, slack)
+    return [number for number in range(4 * side * side) if number & 3 or number >> 2 not in near]
+
+
+def far_behind(side, place, slack):
+    """Return those of `far_numbers` that are greater than the attitude with the quarter 0 at the place."""
+    near = near_places(side, place, slack)
+    return [number for number in range(4 * place + 1, 4 * side * side) if number & 3 or number >> 2 not in near]
+
+
+def count_far(side, slack):
+    """Return how many pairs of far attitudes there are, the first one less than the second one."""
+    many = 4 * side * side
+    return many * (many - len(near_places(side, 0, slack))) // 2
+
+
+def turned_numbers(side, quarter):
+    """Return the list of the numbers of all attitudes, each with its quarter less by this one."""
+    return [4 * place + (own - quarter) % 4 for place in range(side * side) for own in range(4)]
+
+
+def both_ways(place, other):
+    """Return two tuples (place, attitude): for the first attitude by the second one, and for the second by the first.
+
+    They are told by numbers; both are turned so that the first one of the tuple has the quarter 0.
     """
+    return ((place, other), (other >> 2, 4 * place + BACK_TURNS[other & 3]))
+
+
+def far_rows(sky, slack, told_of):
+    """Yield tuples of an attitude, the list of the greater attitudes that are far from it, and what is told of each.
+
+    `told_of` is a function of a place and an ascending list of numbers of attitudes that are far from that with the
+    quarter 0 at the place; it returns a list of what is told of each. That holds for pairs that are turned alike, too.
+    """
+    side, every = sky.side, attitudes(sky)
+    turns = [turned_numbers(side, quarter) for quarter in range(4)]
+    for place in range(side * side):
+        far = far_behind(side, place, slack)
+        row = [None] * len(every)
+        for number, told in zip(far, told_of(place, far)):
+            row[number] = told
+        for quarter in range(4):
+            first = 4 * place + quarter
+            told = [row[number] for number in turns[quarter][first + 1:]]
+            others = [other for other, each in zip(every[first + 1:], told) if each is not None]
+            yield (every[first], others, [each for each in told if each is not None])
+
+
+def unturned(one, other):
+    """Return the two attitudes, both turned alike where they stand, so that the first one has the quarter 0."""
     return ((one[0], one[1], 0), (other[0], other[1], (other[2] - one[2]) % 4))
 
 

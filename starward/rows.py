@@ -2,7 +2,8 @@
 
 from starward.attitudes import attitudes, check_attitude, check_command, check_commands, check_two
 from starward.confuse import common_sighting
-from starward.pairs import Lacks, far_pairs
+from starward.frames import slowest
+from starward.pairs import Lacks
 from starward.places import composed, inverse, is_pose
 from starward.sightings import frames_of, is_within
 from starward.sky import check_sightings
@@ -188,65 +189,13 @@ def check_standstill(sky, one, other, allowed, pairs):
 
 def frames_enough(sky, command, missing, false, slack):
     """Return how many frames are enough if the command is done again and again, or None. Raise InvalidCommand."""
-    frames, _ = _slowest(sky, command, missing + false, slack)
+    check_command(sky, command)
+    frames, _ = slowest(sky, command, missing + false, slack)
     return frames
 
 
 def slowest_pair(sky, command, missing, false, slack):
     """Return the first pair of far beginnings that needs the most frames. Raise InvalidCommand."""
-    _, pair = _slowest(sky, command, missing + false, slack)
-    return pair
-
-
-def _slowest(sky, command, bound, slack):
-    """Return the tuple of the most frames that far beginnings need, None if some are never told, and the first such.
-
-    Raise InvalidCommand.
-    """
     check_command(sky, command)
-    lacks = Lacks(sky)
-    rings = {attitude: _ring(sky.side, attitude, command) for attitude in attitudes(sky)}
-    most, slowest = 0, None
-    for one, other in far_pairs(sky, slack):
-        told = [lacks.both(first, second) for first, second in zip(rings[one], rings[other])]
-        frames = _frames_to_tell(told, bound)
-        if frames is None:
-            return (None, (one, other))
-        if frames > most:
-            most, slowest = frames, (one, other)
-    return (most, slowest)
-
-
-def _ring(side, attitude, command):
-    """Return the list of the attitudes to which the command leads, done again and again, from the attitude on."""
-    # A command comes round behind as many times from each attitude.
-    ring = [attitude]
-    there = composed(side, command, attitude)
-    while there != attitude:
-        ring.append(there)
-        there = composed(side, command, there)
-    return ring
-
-
-def _frames_to_tell(lacks, bound):
-    """Return how many frames it takes until one sum of lacks is above the bound, or None if that is never.
-
-    The tuples of both lacks come again and again.
-    """
-    first = _frames_above([lack for lack, _ in lacks], bound)
-    second = _frames_above([lack for _, lack in lacks], bound)
-    if first is None or second is None:
-        return second if first is None else first
-    return min(first, second)
-
-
-def _frames_above(lacks, bound):
-    """Return how many lacks, coming again and again, it takes until their sum is above the bound, or None."""
-    if sum(lacks) == 0:
-        return None
-    rounds, left = divmod(bound, sum(lacks))
-    frames = 0
-    while left >= 0:
-        left -= lacks[frames]
-        frames += 1
-    return rounds * len(lacks) + frames
+    _, pair = slowest(sky, command, missing + false, slack)
+    return pair
