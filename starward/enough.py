@@ -5,7 +5,7 @@ from starward.bits import bits_of, least_part, most_held, union_of
 from starward.confuse import both_lacks, common_spot, couples, link_table, shown_at
 from starward.links import Links
 from starward.matching import is_ascending, least_lot, matching, partners, with_most
-from starward.pairs import both_ways, count_far, far_behind, far_rows, near_places
+from starward.pairs import both_ways, far_behind, far_rows, holds_for_all
 
 COVER = "cover"
 
@@ -182,25 +182,9 @@ def _cover_of(seen, masks):
 
 def shows_enough(sky, missing, false, slack, number, paper):
     """Return True if the dict is a paper of enough for the number, otherwise False."""
-    if len(paper) != count_far(sky.side, slack):
-        return False
     links = Links(sky)
-    numbers = {attitude: at for at, attitude in enumerate(attitudes(sky))}
-    known = [{} for _ in links.shown]
-    for (one, other), entry in paper.items():
-        first, second = numbers.get(one), numbers.get(other)
-        if first is None or second is None or first >= second:
-            return False
-        right = known[first // 4]
-        turned = second - second % 4 + (second - first) % 4
-        # An entry that is right for a pair is right where both are turned alike, too.
-        if right.get(turned) != entry:
-            if turned not in right and not turned % 4 and turned // 4 in near_places(sky.side, first // 4, slack):
-                return False
-            if not _is_right(links, both_ways(first // 4, turned), (missing, false), number, entry):
-                return False
-            right[turned] = entry
-    return True
+    return holds_for_all(sky, slack, paper, lambda place, other, entry: _is_right(
+        links, both_ways(place, other), (missing, false), number, entry))
 
 
 def _is_right(links, ways, bounds, number, entry):

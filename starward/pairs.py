@@ -5,17 +5,10 @@ of its place, and its quarter. Turning both of two attitudes alike where they st
 stars are seen, sure and linked. So it is enough to look at pairs whose first attitude has the quarter 0.
 """
 
-from starward.attitudes import appearances, are_far, attitudes
+from starward.attitudes import appearances, attitudes
 from starward.confuse import both_lacks
 
 BACK_TURNS = (0, 3, 2, 1)
-
-
-def far_pairs(sky, slack):
-    """Return the ascending list of the pairs of far attitudes, the first one less than the second one."""
-    every = attitudes(sky)
-    return [(one, other) for place, one in enumerate(every) for other in every[place + 1:]
-            if are_far(sky, one, other, slack)]
 
 
 def near_places(side, place, slack):
@@ -74,6 +67,31 @@ def far_rows(sky, slack, told_of):
             told = [row[number] for number in turns[quarter][first + 1:]]
             others = [other for other, each in zip(every[first + 1:], told) if each is not None]
             yield (every[first], others, [each for each in told if each is not None])
+
+
+def holds_for_all(sky, slack, paper, is_right):
+    """Return True if the keys of a dict are just the pairs of far attitudes, ascending, and all its values are right.
+
+    `is_right` is a function of a place, the number of an attitude that is far from that with the quarter 0 there, and
+    a value. What is right for a pair is right for pairs that are turned alike, too.
+    """
+    if len(paper) != count_far(sky.side, slack):
+        return False
+    numbers = {attitude: number for number, attitude in enumerate(attitudes(sky))}
+    known = [{} for _ in range(sky.side * sky.side)]
+    for (one, other), told in paper.items():
+        first, second = numbers.get(one), numbers.get(other)
+        if first is None or second is None or first >= second:
+            return False
+        place, turned = first >> 2, second - second % 4 + (second - first) % 4
+        right = known[place]
+        if right.get(turned) != told:
+            if turned not in right and not turned & 3 and turned >> 2 in near_places(sky.side, place, slack):
+                return False
+            if not is_right(place, turned, told):
+                return False
+            right[turned] = told
+    return True
 
 
 def unturned(one, other):

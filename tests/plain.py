@@ -5,6 +5,7 @@ from functools import cache
 from itertools import combinations, product
 from random import Random
 
+from starward.attitudes import attitudes
 from starward.errors import SkyError
 from starward.sky import Sky
 
@@ -240,3 +241,17 @@ def some_row(seed, side, many):
     chance = Random(seed)
     return [(chance.randrange(1 - side, side), chance.randrange(1 - side, side), chance.randrange(4))
             for _ in range(many)]
+
+
+def far_pairs(sky, slack):
+    """Return the ascending list of the pairs of far attitudes, the first one less than the second one."""
+    return [(one, other) for one, other in product(attitudes(sky), repeat=2)
+            if one < other and plain_far(sky, one, other, slack)]
+
+
+@cache
+def plain_unlikeness(sky, one, other):
+    """Return the unlikeness of two attitudes, by a plain search through all lots of their sure stars."""
+    lacks = [plain_lack(plain_links(sky, *pair), lot)
+             for pair in ((one, other), (other, one)) for lot in all_parts(plain_sure(sky, pair[0]))]
+    return max(lacks)

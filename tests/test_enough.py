@@ -11,7 +11,7 @@ from starward.confuse import linked, unlikeness
 from starward.errors import InvalidAttitude
 from starward.sightings import can_be, need
 from starward.sky import Sky, check_sighting
-from tests.plain import (all_matchings, all_parts, changed_by, no_attitudes, plain_far, plain_lack, plain_links,
+from tests.plain import (all_matchings, all_parts, changed_by, far_pairs, no_attitudes, plain_lack, plain_links,
                          plain_seen, plain_spots, plain_sure, some_sky, told_of_sky, what_is_raised, wrong_calls)
 
 EXAMPLE = Sky(5, [(0, 0, 5), (1, 0, 3)], (1, 0, 0, 1))
@@ -57,12 +57,6 @@ def plain_most_shared(sky, one, other, missing, false):
         return None
     most = max(len(told) for told in all_matchings(there))
     return false + min(most + false, len(plain_seen(sky, one)), len(plain_seen(sky, other)))
-
-
-def far_pairs(sky, slack):
-    """Return the ascending list of the pairs of far attitudes."""
-    return [(one, other) for one, other in product(attitudes(sky), repeat=2)
-            if one < other and plain_far(sky, one, other, slack)]
 
 
 @cache

@@ -75,6 +75,22 @@ FUNCTIONS = {
         "sees": "sky attitude", "are_alike": "sky one other", "alike_lots": "sky", "telling_sighting": "sky one other",
         "check_telling": "sky one other told", "still_motions": "sky", "still_lots": "sky",
     },
+    "sure": {
+        "least_distance": "sky slack", "distances": "sky", "is_sure": "sky slack missing false",
+        "unsure_example": "sky slack missing false", "least_slack": "sky errors",
+        "sure_paper": "sky slack missing false", "check_sure": "sky slack missing false paper",
+    },
+    "guides": {
+        "guide_need": "sky guides attitude sighting", "guide_lack": "sky guides one other",
+        "guide_lot": "sky guides one other", "guide_distance": "sky guides slack", "weakest": "sky guides slack",
+        "are_enough": "sky guides slack missing false", "misleading": "sky guides one true missing false",
+        "needed_guides": "sky guides slack missing false", "thinned": "sky guides slack missing false",
+        "in_every_lot": "sky slack missing false", "fewest_guides": "sky slack missing false",
+    },
+    "whole": {
+        "is_whole": "sky", "kept": "sky motion", "kept_table": "sky quarter", "whole_distance": "sky slack",
+        "distance_bound": "sky", "is_level": "sky",
+    },
 }
 METHODS = {
     ("sky", "Sky"): {
@@ -86,8 +102,13 @@ METHODS = {
         "__init__": "self sky attitude", "sky_now": "self", "attitude_now": "self", "turn": "self command slip",
         "look": "self shifts false", "log": "self", "course": "self", "greatest_slip": "self", "errors": "self",
     },
+    ("desk", "Desk"): {
+        "__init__": "self sky", "put_star": "self star", "drop_star": "self number", "set_camera": "self camera",
+        "move_sky": "self motion", "sky_now": "self", "answer": "self question", "undo": "self", "redo": "self",
+        "begin": "self", "keep": "self", "drop": "self", "change_all": "self deeds",
+    },
 }
-PROPERTIES = {("sky", "Sky"): "side stars camera reach blur glare limit"}
+PROPERTIES = {("sky", "Sky"): "side stars camera reach blur glare limit", ("desk", "Desk"): "found"}
 
 
 def module_of(name):

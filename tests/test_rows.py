@@ -11,7 +11,7 @@ from starward.confuse import confusing_sighting, lack
 from starward.errors import InvalidAttitude, InvalidCommand, InvalidSighting
 from starward.sightings import need
 from starward.sky import Sky, check_sighting
-from tests.plain import (CallsTest, no_attitudes, no_commands, no_sightings, plain_course, plain_far, plain_spots,
+from tests.plain import (CallsTest, far_pairs, no_attitudes, no_commands, no_sightings, plain_course, plain_spots,
                          some_row, some_sighting, some_sky, what_is_raised)
 
 EXAMPLE = Sky(5, [(0, 0, 5), (1, 0, 3)], (1, 0, 0, 1))
@@ -51,12 +51,6 @@ def plain_lot(sky, one, other, allowed):
         if led <= found:
             return sorted(found)
         found |= led
-
-
-def far_pairs(sky, slack):
-    """Return the ascending list of the pairs of far attitudes."""
-    return [(one, other) for one, other in product(attitudes(sky), repeat=2)
-            if one < other and plain_far(sky, one, other, slack)]
 
 
 class CourseTest(unittest.TestCase):
