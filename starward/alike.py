@@ -1,10 +1,9 @@
 """Attitudes that see the same, and motions that leave all as it is."""
 
 from starward.attitudes import appearances, attitudes, check_attitude, check_two, motions
-from starward.errors import InvalidSighting
 from starward.places import composed, moved_star
 from starward.sightings import can_be
-from starward.sky import check_sighting
+from starward.sky import is_sighting
 
 
 def sees(sky, attitude):
@@ -70,9 +69,7 @@ def check_telling(sky, one, other, told):
     """Return True if the tuple is a telling sighting, otherwise False. Raise InvalidAttitude."""
     check_two(sky, one, other)
     which, sighting = told
-    try:
-        check_sighting(sky, sighting)
-    except InvalidSighting:
+    if not is_sighting(sky, sighting):
         return False
     can = [can_be(sky, attitude, sighting, 0, 0) for attitude in (one, other)]
     return which in (0, 1) and can[which] and not can[1 - which]

@@ -33,6 +33,59 @@ def bits_of(mask):
     return found
 
 
+class Swaps:
+    """What all matchings of a table with the most rows leave open."""
+
+    def __init__(self, masks):
+        self._owners, _ = _held(masks)
+        self._held = {row: bit for bit, row in self._owners.items()}
+        taken = union_of(list(self._owners))
+        free_columns = union_of(masks) & ~taken
+        # From each row those, as bits, that would have to change if it took another column, and so on.
+        self._forced = _closed([self._owners_in(mask) for mask in masks])
+        self._loose = 0
+        for row in range(len(masks)):
+            if row not in self._held:
+                self._loose |= self._forced[row] | 1 << row
+        ends = sum([1 << row for row, mask in enumerate(masks) if mask & free_columns])
+        self._movable = [self._forced[row] & ends != 0 or ends >> row & 1 == 1 for row in range(len(masks))]
+
+    def _owners_in(self, mask):
+        """Return the rows, as bits, that have one of these columns."""
+        return sum([1 << row for bit, row in self._owners.items() if mask & bit])
+
+    def many(self):
+        """Return how many rows the matchings have."""
+        return len(self._held)
+
+    def can_omit(self, row):
+        """Return True if some matching with the most rows does not have this one."""
+        return self._loose >> row & 1 == 1
+
+    def can_spare(self, column):
+        """Return True if some matching with the most rows does not have this column."""
+        owner = self._owners.get(1 << column)
+        return owner is None or self._movable[owner]
+
+    def can_hold(self, row, column):
+        """Return True if some matching with the most rows has this row and this column, a partner, together."""
+        owner = self._owners.get(1 << column)
+        if owner == row or self.can_omit(row) or self.can_spare(column):
+            return True
+        # Otherwise both have others, and the one that has the column must come round to what the row gives up.
+        return self._forced[owner] >> row & 1 == 1
+
+
+def _closed(following):
+    """Return what can be reached from each row, as bits, in one step or more."""
+    reached = list(following)
+    for middle in range(len(reached)):
+        for row in range(len(reached)):
+            if reached[row] >> middle & 1:
+                reached[row] |= reached[middle]
+    return reached
+
+
 def _held(masks):
     """Return a matching that has as many rows as any, a dict from single columns, as bits, to the rows that have them.
 

@@ -152,6 +152,15 @@ def check_sighting(sky, sighting):
         raise InvalidSighting("too many spots")
 
 
+def is_sighting(sky, sighting):
+    """Return True if the tuple is a sighting of the sky's camera, otherwise False."""
+    try:
+        check_sighting(sky, sighting)
+    except InvalidSighting:
+        return False
+    return True
+
+
 def check_sightings(sky, sightings):
     """Raise InvalidSighting for the first tuple of the list that is no sighting."""
     for sighting in sightings:

@@ -56,13 +56,16 @@ def row_to(sky, attitude, goal, commands):
     check_two(sky, attitude, goal)
     check_commands(sky, commands)
     last = last_commands(sky.side, attitude, commands)
-    if goal not in last:
-        return None
+    return traced_row(sky.side, last, goal) if goal in last else None
+
+
+def traced_row(side, last, goal):
+    """Return the first shortest row to a goal, one of the attitudes of a dict that `last_commands` returned."""
     row = []
     there = goal
     while last[there] is not None:
         row.append(last[there])
-        there = composed(sky.side, inverse(sky.side, last[there]), there)
+        there = composed(side, inverse(side, last[there]), there)
     return list(reversed(row))
 
 

@@ -91,6 +91,27 @@ FUNCTIONS = {
         "is_whole": "sky", "kept": "sky motion", "kept_table": "sky quarter", "whole_distance": "sky slack",
         "distance_bound": "sky", "is_level": "sky",
     },
+    "plans": {
+        "tells": "sky row one other missing false", "telling_row": "sky one other commands missing false",
+        "closed_lot": "sky one other commands missing false",
+        "check_closed": "sky one other commands missing false lot", "telling_places": "sky motion missing false",
+        "hidden_motions": "sky missing false", "untold": "sky row slack missing false",
+        "finding_row": "sky slack commands missing false", "never_told": "sky slack commands missing false",
+        "longest_telling": "sky slack commands missing false",
+    },
+    "slips": {
+        "pairs_behind": "sky row slip missing false", "fooling": "sky row slip slack missing false",
+        "check_fooling": "sky row slip slack missing false pairs", "rounds": "sky row slip slack missing false",
+        "check_ring": "sky row slip slack missing false ring way",
+    },
+    "roles": {
+        "pairs_at": "sky attitude sighting missing false", "false_at": "sky attitude sighting missing false",
+        "out_at": "sky attitude sighting missing false", "names_of": "sky sighting missing false",
+    },
+    "keys": {
+        "votes_at": "sky attitude sighting", "votes_needed": "spots false", "candidates": "sky sighting false",
+        "identify": "sky sighting missing false",
+    },
 }
 METHODS = {
     ("sky", "Sky"): {
@@ -107,8 +128,14 @@ METHODS = {
         "move_sky": "self motion", "sky_now": "self", "answer": "self question", "undo": "self", "redo": "self",
         "begin": "self", "keep": "self", "drop": "self", "change_all": "self deeds",
     },
+    ("session", "Session"): {"__init__": "self sky", "obey": "self line", "play": "self text"},
+    ("keys", "Index"): {
+        "__init__": "self sky", "finds": "self first second", "attitudes_for": "self first second",
+        "votes": "self sighting",
+    },
 }
-PROPERTIES = {("sky", "Sky"): "side stars camera reach blur glare limit", ("desk", "Desk"): "found"}
+PROPERTIES = {("sky", "Sky"): "side stars camera reach blur glare limit", ("desk", "Desk"): "found",
+              ("keys", "Index"): "sky"}
 
 
 def module_of(name):
