@@ -94,10 +94,25 @@ class Courses:
                     return self._pair(quarter, more, x, bits_of(points & -points)[0])
         return None
 
-    def pairs(self, lot):
-        """Return the list of all pairs of the lot, in the order in which they stand."""
-        return [self._pair(quarter, more, x, point) for (quarter, more), lists in lot.items()
-                for x, points in enumerate(lists) for point in bits_of(points)]
+    def numbers(self, lot):
+        """Return the ascending list of tuples of the numbers of two attitudes of the lot, the greater one behind.
+
+        The lot has both orders of each pair. Attitudes have their numbers as in `starward/pairs.py`.
+        """
+        places = self._side * self._side
+        many = 4 * places
+        found = []
+        for (quarter, more), lists in lot.items():
+            for x, points in enumerate(lists):
+                for point in bits_of(points):
+                    y, place = divmod(point, places)
+                    one, other = 4 * (x * self._side + y) + quarter, 4 * place + (quarter + more) % 4
+                    if one <= other:
+                        found.append(one * many + other)
+                    elif more == 1:
+                        # The other order would be of a kind that is left out.
+                        found.append(other * many + one)
+        return [divmod(both, many) for both in sorted(found)]
 
     def _pair(self, quarter, more, x, point):
         """Return the pair with this kind, this x of the first attitude and this bit."""

@@ -125,7 +125,7 @@ def hardest_pair(sky, missing, false, slack):
 
 def enough_paper(sky, missing, false, slack):
     """Return a paper for the enough spots: a dict from all far pairs to lots and covers."""
-    entries = _Entries(sky, missing + false)
+    entries = Entries(sky, missing + false)
     paper = {}
     for one, others, told in far_rows(sky, slack, entries.of_place):
         for other, (word, first, second) in zip(others, told):
@@ -133,7 +133,7 @@ def enough_paper(sky, missing, false, slack):
     return paper
 
 
-class _Entries:
+class Entries:
     """What a paper of enough has for two attitudes: a lot that lacks more than a bound, otherwise a least cover."""
 
     def __init__(self, sky, bound):

@@ -9,10 +9,10 @@ from starward.links import Links
 from starward.pairs import near_places, turned_numbers
 from starward.places import composed
 
-# More than any sum that is looked at; a sum that is above its bound has the bit of its half in OVER.
+# Sums are kept so that one that is above its bound has reached HALF; OVER is HALF for both of them, SHIFT bits apart.
 SHIFT = 16
-HALF = 1 << 15
-OVER = HALF + (HALF << SHIFT)
+HALF = 32768
+OVER = 2147516416
 
 
 class Rings:
@@ -24,15 +24,15 @@ class Rings:
         following = [numbers[composed(sky.side, command, attitude)] for attitude in every]
         behind = list(range(len(every)))
         # Where each attitude is led, turn by turn; a command comes round behind as many times from each attitude.
-        self._led = [behind]
+        self._steps = [behind]
         while following[behind[0]] != 0:
             behind = [following[number] for number in behind]
-            self._led.append(behind)
+            self._steps.append(behind)
         # For each attitude the least one in its ring, and behind how many turns that is led to it.
         self._first = {}
         for number in range(len(every)):
             if number not in self._first:
-                for turn, led in enumerate(self._led):
+                for turn, led in enumerate(self._steps):
                     self._first[led[number]] = (number, turn)
         self._turns = [turned_numbers(sky.side, quarter) for quarter in range(4)]
         self._links = Links(sky)
@@ -41,7 +41,7 @@ class Rings:
 
     def length(self):
         """Return behind how many times the command comes round."""
-        return len(self._led)
+        return len(self._steps)
 
     def is_first(self, one):
         """Return True if the attitude is the least one in its ring."""
@@ -49,7 +49,7 @@ class Rings:
 
     def lacks(self, one, frame):
         """Return a list with both lacks of an attitude and each one in a frame of the ring, one integer for both."""
-        led = self._led[frame]
+        led = self._steps[frame]
         row, turned = self._both_of(led[one] // 4), self._turns[led[one] % 4]
         return [row[turned[other]] for other in led]
 
@@ -64,21 +64,21 @@ class Rings:
         """Return the sums of both lacks of an attitude and each one over the whole ring, one integer for both."""
         first, turn = self._first[one]
         if first not in self._totals:
-            rows = [self.lacks(first, frame) for frame in range(len(self._led))]
+            rows = [self.lacks(first, frame) for frame in range(len(self._steps))]
             self._totals[first] = [sum(lacks) for lacks in zip(*rows)]
         # Where two attitudes are led to, the sums are the same.
         row = self._totals[first]
-        return [row[before] for before in self._led[-turn]]
+        return [row[before] for before in self._steps[-turn]]
 
     def never_told(self, one, others):
         """Return the first of the others that never lacks and by which the attitude never does, or None."""
         left = others
-        for led in self._led:
+        for led in self._steps:
             row, turned = self._links.lacks(led[one] // 4), self._turns[led[one] % 4]
             left = [other for other in left if not row[turned[led[other]]]]
         for other in left:
             if not any([self._links.lacks(led[other] // 4)[self._turns[led[other] % 4][led[one]]]
-                        for led in self._led]):
+                        for led in self._steps]):
                 return other
         return None
 

@@ -101,21 +101,26 @@ class Demands:
 
     def are_met(self, lot):
         """Return True if a lot of guides is enough, otherwise False."""
-        return all([len(_both_of(sure, lot)) > self._bound for sure in self._links.sure]) and all(
-            self._is_met_at(place, lot) for place in range(len(self._links.sure)))
+        # That guides are too few somewhere is found without links.
+        if not all([len(_both_of(sure, lot)) > self._bound for sure in self._links.sure]):
+            return False
+        return self._are_met_at(list(range(len(self._links.sure))), lot)
 
     def are_met_without(self, lot, left_out):
         """Return True if a lot of guides is enough that is so with one star more."""
         # Where that star is not sure, nothing changes.
-        return all(self._is_met_at(place, lot) for place, sure in enumerate(self._links.sure) if left_out in sure)
+        return self._are_met_at([place for place, sure in enumerate(self._links.sure) if left_out in sure], lot)
 
-    def _is_met_at(self, place, lot):
-        """Return True if at the place each guide lack by a far attitude is above the bound."""
-        stars = _both_of(self._links.sure[place], lot)
-        if len(stars) <= self._bound:
-            return False
-        row = self._links.lack_row(place, stars)
-        return min([row[number] for number in far_numbers(self._sky.side, place, self._slack)]) > self._bound
+    def _are_met_at(self, places, lot):
+        """Return True if at these places each guide lack by a far attitude is above the bound."""
+        for place in places:
+            stars = _both_of(self._links.sure[place], lot)
+            if len(stars) <= self._bound:
+                return False
+            row = self._links.lack_row(place, stars)
+            if min([row[number] for number in far_numbers(self._sky.side, place, self._slack)]) <= self._bound:
+                return False
+        return True
 
     def needed(self, lot):
         """Return the ascending list of the guides of the lot without which it is not enough, or None if it is not."""

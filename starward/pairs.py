@@ -50,13 +50,14 @@ def both_ways(place, other):
 
 
 def far_rows(sky, slack, told_of):
-    """Yield tuples of an attitude, the list of the greater attitudes that are far from it, and what is told of each.
+    """Return tuples of an attitude, the list of the greater attitudes that are far from it, and what is told of each.
 
     `told_of` is a function of a place and an ascending list of numbers of attitudes that are far from that with the
     quarter 0 at the place; it returns a list of what is told of each. That holds for pairs that are turned alike, too.
     """
     side, every = sky.side, attitudes(sky)
     turns = [turned_numbers(side, quarter) for quarter in range(4)]
+    rows = []
     for place in range(side * side):
         far = far_behind(side, place, slack)
         row = [None] * len(every)
@@ -66,7 +67,8 @@ def far_rows(sky, slack, told_of):
             first = 4 * place + quarter
             told = [row[number] for number in turns[quarter][first + 1:]]
             others = [other for other, each in zip(every[first + 1:], told) if each is not None]
-            yield (every[first], others, [each for each in told if each is not None])
+            rows.append((every[first], others, [each for each in told if each is not None]))
+    return rows
 
 
 def holds_for_all(sky, slack, paper, is_right):

@@ -1,6 +1,6 @@
 """What rows of commands tell if the commands slip, and what shows that they do not."""
 
-from starward.attitudes import are_far, check_commands
+from starward.attitudes import are_far, attitudes, check_commands
 from starward.courses import Courses, in_both
 from starward.pairs import Lacks
 from starward.turns import is_course
@@ -13,9 +13,8 @@ def pairs_behind(sky, row, slip, missing, false):
     lot = courses.confusable()
     for command in row:
         lot = courses.behind(lot, command)
-    # Pairs with the same or the opposite quarter stand there in both orders.
-    ends = {(one, other) if one <= other else (other, one): True for one, other in courses.pairs(lot)}
-    return sorted(ends)
+    every = attitudes(sky)
+    return [(every[one], every[other]) for one, other in courses.numbers(lot)]
 
 
 def fooling(sky, row, slip, slack, missing, false):

@@ -81,9 +81,11 @@ def sure_paper(sky, slack, missing, false):
         return None
     links = Links(sky)
     lots = [links.lot_row(place, sure) for place, sure in enumerate(links.sure)]
-    return {(one, other): (word, [*lot])
-            for one, others, told in far_rows(sky, slack, lambda place, far: _parting_entries(lots, place, far))
-            for other, (word, lot) in zip(others, told)}
+    paper = {}
+    for one, others, told in far_rows(sky, slack, lambda place, far: _parting_entries(lots, place, far)):
+        for other, (word, lot) in zip(others, told):
+            paper[(one, other)] = (word, [*lot])
+    return paper
 
 
 def _parting_entries(lots, place, others):

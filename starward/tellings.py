@@ -47,6 +47,7 @@ class Untold:
         What is seen there hangs on the place alone, not on the quarter.
         """
         more = False
+        lots = []
         for quarter, left in enumerate(self._left):
             right, up = quarter_turned(quarter, place)
             still = {}
@@ -56,7 +57,8 @@ class Untold:
                 more = more or kept != places
                 if kept:
                     still[motion] = kept
-            self._left[quarter] = still
+            lots.append(still)
+        self._left = lots
         return more
 
     def is_empty(self):
@@ -65,14 +67,15 @@ class Untold:
 
     def pairs(self):
         """Return the ascending list of the tuples of the numbers of two far attitudes that are not told apart."""
+        many = 4 * self._side * self._side
         found = []
         for quarter, left in enumerate(self._left):
             for motion, places in left.items():
                 for place in bits_of(places):
                     one, other = 4 * place + quarter, self._moved(place, quarter, motion)
                     if one < other:
-                        found.append((one, other))
-        return sorted(found)
+                        found.append(one * many + other)
+        return [divmod(both, many) for both in sorted(found)]
 
     def first(self):
         """Return the first tuple that `pairs` returns, or None if there is none."""
