@@ -48,7 +48,8 @@ class Swaps:
             if row not in self._held:
                 self._loose |= self._forced[row] | 1 << row
         ends = sum([1 << row for row, mask in enumerate(masks) if mask & free_columns])
-        self._movable = [self._forced[row] & ends != 0 or ends >> row & 1 == 1 for row in range(len(masks))]
+        # A row that has a column is among those that would have to change, too.
+        self._movable = [forced & ends != 0 for forced in self._forced]
 
     def _owners_in(self, mask):
         """Return the rows, as bits, that have one of these columns."""

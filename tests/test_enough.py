@@ -207,6 +207,19 @@ class EnoughTest(unittest.TestCase):
                 first = min([pair for pair, many in shared.items() if many == most], default=None)
                 self.assertEqual(en.hardest_pair(sky, missing, false, slack), first)
 
+    def test_hardest_pairs_that_stand_behind_others(self):
+        found = set()
+        for sky in [Sky(4, [(2, 2, 5), (2, 3, 5), (3, 2, 5)], (1, 0, 0, 1)),
+                    Sky(5, [(3, 3, 9), (4, 3, 9)], (1, 0, 0, 1)), Sky(5, [(4, 4, 9), (4, 4, 8), (4, 3, 8)], (0, 0, 1, 3)), some_sky(8, 5, (1, 1, 1, 4), 6)]:
+            for (missing, false), slack in [((0, 0), 0), ((20, 0), 1), ((1, 1), 1), ((3, 0), 2)]:
+                shared = {pair: many for pair, many in all_shared(sky, missing, false, slack).items()
+                          if many is not None}
+                most = max(shared.values())
+                pair = en.hardest_pair(sky, missing, false, slack)
+                self.assertEqual(pair, min(pair for pair, many in shared.items() if many == most))
+                found.add(pair[0])
+        self.assertGreater(len(found), 3)
+
     def test_no_two_far_attitudes_that_are_confusable(self):
         sky = Sky(5, [(0, 0, 3), (1, 0, 5), (3, 1, 7)], (2, 0, 0, 1))
         self.assertEqual((en.enough_spots(sky, 0, 0, 0), en.hardest_pair(sky, 0, 0, 0)), (0, None))

@@ -177,6 +177,14 @@ class CheckClosedTest(unittest.TestCase):
             self.assertIs(told, right)
         self.assertIsNone(pl.closed_lot(self.SKY, (0, 0, 0), (0, 0, 1), [(0, 0, 0)], 0, 0))
 
+    def test_sighting_that_lets_only_one_be(self):
+        one, other = (0, 0, 0), (0, 0, 1)
+        for sighting, right in [(((0, 0, 9),), True), (((0, 0, 9), (1, 0, 4)), False),
+                                (((0, -1, 4), (0, 0, 9)), False)]:
+            for pair in ((one, other), (other, one)):
+                told = pl.check_closed(EXAMPLE, *pair, [(0, 0, 0)], 1, 0, [(*pair, sighting)])
+                self.assertIs(told, right)
+
     def test_no_attitudes_and_no_sightings(self):
         lot = pl.closed_lot(self.SKY, self.ONE, self.OTHER, [(1, 0, 0)], 0, 0)
         for bad in [*no_attitudes(5), (5, 3, 0), (-2, 3, 0)]:
@@ -264,6 +272,9 @@ class UntoldTest(unittest.TestCase):
         skies = [*small_skies(), EXAMPLE, some_sky(3, 5, (2, 0, 0, 1), 9), Sky(5, [(0, 0, 1), (1, 0, 2)], (0, 0, 0, 1))]
         for sky, commands, slack, bound in product(skies, CHOICES, (0, 2), (0, 1)):
             row = pl.finding_row(sky, slack, commands, bound, 0)
+            self.assertEqual(pl.finding_row(sky, slack, commands, 0, bound) is None, row is None)
+            if row is not None:
+                self.assertEqual(pl.untold(sky, pl.finding_row(sky, slack, commands, 0, bound), slack, 0, bound), [])
             # Point [66]: exactly one of the two is so.
             self.assertIs(row is None, pl.never_told(sky, slack, commands, bound, 0) is not None)
             if row is not None:

@@ -11,8 +11,8 @@ from starward.confuse import confusing_sighting, lack
 from starward.errors import InvalidAttitude, InvalidCommand, InvalidSighting
 from starward.sightings import need
 from starward.sky import Sky, check_sighting
-from tests.plain import (CallsTest, far_pairs, no_attitudes, no_commands, no_sightings, plain_course, plain_spots,
-                         some_row, some_sighting, some_sky, what_is_raised)
+from tests.plain import (CallsTest, far_pairs, no_attitudes, no_commands, no_sightings, plain_course, plain_led,
+                         plain_spots, some_row, some_sighting, some_sky, what_is_raised)
 
 EXAMPLE = Sky(5, [(0, 0, 5), (1, 0, 3)], (1, 0, 0, 1))
 LOOK_AGAIN = (0, 0, 0)
@@ -349,6 +349,41 @@ class FramesEnoughTest(unittest.TestCase):
             found.add(frames)
         self.assertIn(None, found)
         self.assertGreater(len(found), 3)
+
+    def frames_along(self, sky, pair, command, bound):
+        """Return how many frames a pair needs, by the lacks along the ring of the command, or None."""
+        ring = [pair]
+        while len(ring) == 1 or ring[-1] != pair:
+            ring.append(tuple(plain_led(sky, attitude, command)[0] for attitude in ring[-1]))
+        lacks = [kept_lacks(sky, *each) for each in ring[:-1]]
+        if all(each == (0, 0) for each in lacks):
+            return None
+        sums, frames = [0, 0], 0
+        while max(sums) <= bound:
+            sums = [total + more for total, more in zip(sums, lacks[frames % len(lacks)])]
+            frames += 1
+        return frames
+
+    def test_slacks_and_pairs_that_are_never_told_apart(self):
+        # Rows of equal stars are told by no shift along them; sparse skies have pairs that see nothing for ever.
+        skies = [Sky(4, [(x, y, 5 + y) for x in range(4) for y in range(3)], (1, 0, 0, 1)),
+                 Sky(4, [(x, y, 5 + x) for x in range(4) for y in range(4)], (0, 0, 0, 1)),
+                 Sky(4, [(x, y, 5 + x % 2) for x in range(4) for y in range(4)], (1, 0, 0, 1)),
+                 Sky(4, [(3, 3, 9)], (1, 0, 0, 1)), Sky(4, [(2, 3, 9), (3, 3, 4)], (0, 0, 0, 1)),
+                 *[some_sky(seed, 4, (1, 0, 0, 3), 2 + 2 * seed) for seed in range(7)]]
+        nevers, found = set(), set()
+        for number, sky in enumerate(skies):
+            for command, slack, bound in product(self.COMMANDS[number % 2::2], (0, 1, 2), (0, 5, 40)):
+                told = {pair: self.frames_along(sky, pair, command, bound) for pair in far_pairs(sky, slack)}
+                never = [pair for pair, frames in told.items() if frames is None]
+                most = None if never else max(told.values())
+                first = min(never) if never else min(pair for pair, frames in told.items() if frames == most)
+                given = (sky, command, bound // 2, bound - bound // 2, slack)
+                self.assertEqual((ro.frames_enough(*given), ro.slowest_pair(*given)), (most, first))
+                nevers.update(min(never)[:1] if never else [])
+                found.add(most)
+        self.assertGreater(len(nevers), 2)
+        self.assertGreater(len(found), 8)
 
     def test_looking_again_at_the_same_place(self):
         for seed in range(3):

@@ -21,6 +21,10 @@ def whole_skies():
     skies = [EXAMPLE, Sky(5, [], (2, 0, 0, 1)), Sky(5, [(2, 2, 3)], (2, 0, 0, 4)), Sky(5, [(2, 2, 4)], (2, 0, 0, 4))]
     for seed, (side, limit, many) in enumerate([(5, 1, 20), (5, 5, 14), (7, 3, 20), (7, 8, 20), (9, 1, 20)]):
         skies.append(some_sky(seed, side, (side // 2, 0, 0, limit), many))
+    # A shift along rows keeps more than a turn does; in the second one the more steps the fewer.
+    skies.append(Sky(5, [(x, y, 5 + y) for x, y in product(range(5), range(3))], (2, 0, 0, 1)))
+    skies.append(Sky(7, [(x, y, 5 + y) for x, y in product(range(5), range(4))], (3, 0, 0, 1)))
+    skies.append(Sky(5, [(0, 0, 1), (1, 0, 1), (1, 1, 1), (2, 2, 1), (3, 0, 1), (3, 1, 1)], (2, 0, 0, 1)))
     skies.append(Sky(5, [(x, y, 5) for x, y in product(range(5), range(4))], (2, 0, 0, 5)))
     skies.append(Sky(5, [(0, 0, b) for b in range(1, 10)] + [(1, 2, 9)], (2, 0, 0, 3)))
     return skies
@@ -68,11 +72,14 @@ class WholeTest(unittest.TestCase):
                                      many - len(wh.kept(sky, motion)))
 
     def test_distance_is_that_of_all_far_pairs(self):
+        found = set()
         for sky in whole_skies():
             told = [wh.whole_distance(sky, slack) for slack in range(10)]
             half = sky.side // 2
+            found.add(len(set(told)))
             self.assertEqual(told[:half + 1], distances(sky))
             self.assertEqual(told[half:], told[half:half + 1] * (10 - half))
+        self.assertEqual(found, {1, 2, 3})
         self.assertEqual(wh.whole_distance(EXAMPLE, 9), least_distance(EXAMPLE, 9)[0])
 
     def test_distance_against_all_motions(self):
