@@ -210,7 +210,8 @@ class EnoughTest(unittest.TestCase):
     def test_hardest_pairs_that_stand_behind_others(self):
         found = set()
         for sky in [Sky(4, [(2, 2, 5), (2, 3, 5), (3, 2, 5)], (1, 0, 0, 1)),
-                    Sky(5, [(3, 3, 9), (4, 3, 9)], (1, 0, 0, 1)), Sky(5, [(4, 4, 9), (4, 4, 8), (4, 3, 8)], (0, 0, 1, 3)), some_sky(8, 5, (1, 1, 1, 4), 6)]:
+                    Sky(5, [(3, 3, 9), (4, 3, 9)], (1, 0, 0, 1)),
+                    Sky(5, [(4, 4, 9), (4, 4, 8), (4, 3, 8)], (0, 0, 1, 3)), some_sky(8, 5, (1, 1, 1, 4), 6)]:
             for (missing, false), slack in [((0, 0), 0), ((20, 0), 1), ((1, 1), 1), ((3, 0), 2)]:
                 shared = {pair: many for pair, many in all_shared(sky, missing, false, slack).items()
                           if many is not None}

@@ -203,6 +203,7 @@ class MotionTest(unittest.TestCase):
                 hidden = []
                 for motion in motions(sky):
                     told = pl.telling_places(sky, motion, bound, 0)
+                    self.assertEqual(pl.telling_places(sky, motion, 0, bound), told)
                     # The quarter of the attitude does not matter.
                     for quarter in (0, 3) if motion[0] == 1 else (0,):
                         there = [(x, y) for x in range(sky.side) for y in range(sky.side)

@@ -226,7 +226,7 @@ class PaperTest(unittest.TestCase):
         self.assertIs(su.check_sure(FEW, 2, 0, 1, paper), False)
 
     def test_other_entries_against_plain_searches(self):
-        for missing, false in [(0, 0), (1, 0)]:
+        for missing, false in [(0, 0), (1, 0), (0, 1)]:
             paper = su.sure_paper(FEW, 0, missing, false)
             for pair in sorted(paper)[::1501]:
                 for word, lot in product(["one", "other", "", "stars"],

@@ -24,6 +24,7 @@ def whole_skies():
     # A shift along rows keeps more than a turn does; in the second one the more steps the fewer.
     skies.append(Sky(5, [(x, y, 5 + y) for x, y in product(range(5), range(3))], (2, 0, 0, 1)))
     skies.append(Sky(7, [(x, y, 5 + y) for x, y in product(range(5), range(4))], (3, 0, 0, 1)))
+    skies.append(Sky(7, [(y, x, 5 + y) for x, y in product(range(5), range(4))], (3, 0, 0, 1)))
     skies.append(Sky(5, [(0, 0, 1), (1, 0, 1), (1, 1, 1), (2, 2, 1), (3, 0, 1), (3, 1, 1)], (2, 0, 0, 1)))
     skies.append(Sky(5, [(x, y, 5) for x, y in product(range(5), range(4))], (2, 0, 0, 5)))
     skies.append(Sky(5, [(0, 0, b) for b in range(1, 10)] + [(1, 2, 9)], (2, 0, 0, 3)))
