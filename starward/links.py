@@ -70,14 +70,14 @@ class Links:
         It is a function of a tuple of lots, asked once for equal tuples.
         """
         known = {}
-        row = [None] * (4 * self._side * self._side)
+        columns = []
         for quarter in range(4):
             tables = self.tables(place, quarter, stars)
             for masks in tables:
                 if masks not in known:
                     known[masks] = judge(masks)
-            row[quarter::4] = [known[masks] for masks in tables]
-        return row
+            columns.append([known[masks] for masks in tables])
+        return [told for four in zip(*columns) for told in four]
 
     def lack_row(self, place, stars):
         """Return how many of the stars seen from a place cannot be linked at once, for all attitudes."""

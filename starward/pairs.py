@@ -61,8 +61,8 @@ def far_rows(sky, slack, told_of):
     for place in range(side * side):
         far = far_behind(side, place, slack)
         row = [None] * len(every)
-        for number, told in zip(far, told_of(place, far)):
-            row[number] = told
+        for number, each in zip(far, told_of(place, far)):
+            row[number] = each
         for quarter in range(4):
             first = 4 * place + quarter
             told = [row[number] for number in turns[quarter][first + 1:]]
